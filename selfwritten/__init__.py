@@ -1,0 +1,1 @@
+"""Selfwritten: translators made from any two books of instructions."""

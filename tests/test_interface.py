@@ -1,0 +1,67 @@
+"""The names of the interface: where they are defined, and which arguments they take."""
+
+import ast
+import unittest
+from pathlib import Path
+
+PACKAGE = Path(__file__).resolve().parent.parent / "selfwritten"
+
+FUNCTIONS = {
+    "widths": ["check_int(value, low, high, name)", "ones(width)", "check_words(row, width, many)"],
+    "prefixes": ["part_text(pool, part)", "part_of_words(pool, words, letters)"],
+    "lifting": ["lifted(pool, name, one, other, width)", "put_in(pool, part, parts)",
+                "carried(pool, part, other)"],
+    "bits": ["standing_parts(pool, numbers)", "first_standings(pool, demands)",
+             "next_standing(pool, demands, place, standing, bits)", "is_end(pool, demands, standing)"],
+    "groups": ["groups(pool, demands)"],
+    "solving": ["solved(pool, limits, demands)", "how_many(pool, limits, demands)",
+                "told_apart(pool, limits, one, other)"],
+    "sheets": ["sheet(pool, limits, demands)", "is_sheet(pool, limits, demands, rows)"],
+    "patterns": ["letters_of(patterns)", "fits(pattern, word)", "numbers_in(patterns, cells)",
+                 "cells_of(patterns, numbers)", "fixed(patterns)"],
+}
+
+METHODS = {
+    ("pools", "Pool"): ["__init__(self, width)", "__len__(self)", "__iter__(self)", "ops()", "num(self, value)",
+                        "unknown(self, number)", "apply(self, name, one, other)", "part(self, number)",
+                        "value(self, number, words)", "reached(self, number)", "unknowns(self, numbers)",
+                        "chosen(self, test, one, other)", "carry(self, one, other)"],
+    ("books", "Form"): [],
+    ("books", "Book"): ["__init__(self, word, registers, forms)", "read(cls, text)", "text(self)",
+                        "form_named(self, name)", "__eq__(self, other)"],
+}
+
+
+def heads(body):
+    """The names and parameters of the functions that stand in a body."""
+    found = []
+    for node in body:
+        if isinstance(node, ast.FunctionDef):
+            found.append(f"{node.name}({ast.unparse(node.args)})")
+    return found
+
+
+class Interface(unittest.TestCase):
+    def test_functions(self):
+        for name, wanted in FUNCTIONS.items():
+            tree = ast.parse((PACKAGE / (name + ".py")).read_text())
+            for head in wanted:
+                self.assertIn(head, heads(tree.body), name)
+
+    def test_methods(self):
+        for (name, owner), wanted in METHODS.items():
+            tree = ast.parse((PACKAGE / (name + ".py")).read_text())
+            own = [node for node in tree.body if isinstance(node, ast.ClassDef) and node.name == owner]
+            self.assertEqual(len(own), 1, owner)
+            for head in wanted:
+                self.assertIn(head, heads(own[0].body), owner)
+
+    def test_static_and_class_methods(self):
+        from selfwritten.books import Book
+        from selfwritten.pools import Pool
+        self.assertIsInstance(vars(Pool)["ops"], staticmethod)
+        self.assertIsInstance(vars(Book)["read"], classmethod)
+
+
+if __name__ == "__main__":
+    unittest.main()
