@@ -2,7 +2,7 @@
 
 from selfwritten.errors import BadBook, BadLine, BadSource
 from selfwritten.grammar import EFFECTS, REGISTER_LETTERS, VALUES, Grammar, line_of
-from selfwritten.patterns import letters_of
+from selfwritten.patterns import fixed_bits, letters_of
 from selfwritten.tokens import finished_lines, number_of, written_line
 from selfwritten.widths import check_int, is_row
 
@@ -23,6 +23,14 @@ class Form:
         self.letters = letters_of(patterns)
         self.effect = _first_of(lines, EFFECTS)
         self.goto = _first_of(lines, ("goto",))
+        self.fixed = tuple([fixed_bits(pattern) for pattern in patterns])
+
+    def may_begin(self, cells):
+        """Whether each 0 and 1 of the patterns of these first cells is that bit there."""
+        for (mask, bits), cell in zip(self.fixed, cells):
+            if cell & mask != bits:
+                return False
+        return True
 
 
 class Book:

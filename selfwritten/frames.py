@@ -162,12 +162,17 @@ def parted(letters, entries):
     """Pairs (letters, code): the letters that lead to one next standing, and its code."""
     found = [(letters, 0)] if letters else []
     for at, mask in enumerate(entries):
-        split = []
-        for some, code in found:
-            inside = some & mask
-            if inside != some:
-                split.append((some ^ inside, code))
-            if inside:
-                split.append((inside, code | (1 << at)))
-        found = split
+        found = _split(found, mask, 1 << at)
     return found
+
+
+def _split(pairs, mask, bit):
+    """The pairs anew, the letters of the mask apart from the others and with this bit."""
+    split = []
+    for letters, code in pairs:
+        inside = letters & mask
+        if inside != letters:
+            split.append((letters ^ inside, code))
+        if inside:
+            split.append((inside, code | bit))
+    return split

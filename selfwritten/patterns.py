@@ -11,10 +11,15 @@ def letters_of(patterns):
 
 def fits(pattern, word):
     """Whether each 0 and 1 of the pattern is that bit of the word."""
-    for sign, bit in _bits(pattern, word):
-        if sign in "01" and sign != bit:
-            return False
-    return True
+    mask, bits = fixed_bits(pattern)
+    return word & mask == bits
+
+
+def fixed_bits(pattern):
+    """Two words: one with a 1 where the sign is 0 or 1, one with a 1 where it is 1."""
+    places = list(enumerate(pattern[::-1]))
+    mask = sum([1 << at for at, sign in places if sign in "01"])
+    return mask, sum([1 << at for at, sign in places if sign == "1"])
 
 
 def numbers_in(patterns, cells):

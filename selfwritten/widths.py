@@ -12,6 +12,11 @@ def is_row(value):
     return isinstance(value, (list, tuple))
 
 
+def is_word(value, width):
+    """Whether the value is a word of this width."""
+    return is_int(value) and 0 <= value < 1 << width
+
+
 def check_int(value, low, high, name):
     """Returns the value; a high of None is no bound."""
     if not is_int(value) or value < low:

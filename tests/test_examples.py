@@ -70,6 +70,65 @@ raises BadWords(2)
 >>> rows = sheet(pool, [1], [(x, True), (x, False)])
 >>> (rows, is_sheet(pool, [1], [(x, True), (x, False)], rows))
 ((((0, 0),), ((0, 0), (1, 1))), True)
+
+>>> from selfwritten.books import Book
+>>> from selfwritten.overlaps import first_shared
+>>> forms = [("one", ("00mm",), ()), ("two", ("0n10", "nn01"), ()), ("six", ("1000",), ())]
+>>> first_shared(Book(4, 1, forms))
+('one', 'two', (2, 1))
+
+>>> from selfwritten.books import Book
+>>> from selfwritten.codes import decoded
+>>> book = Book.read("word 4\\nregisters 2\\nform add 00ab\\nform set 01a0 nnnn\\nnum n\\nput a 0\\n")
+>>> decoded(book, (6, 11, 0))
+(('set', (1, 11)), 2)
+
+>>> from selfwritten.assembly import assembled, listed
+>>> from selfwritten.books import Book
+>>> add = ("add", ("00ab",), [("get", "a"), ("get", "b"), ("add", 0, 1), ("put", "a", 2)])
+>>> go = ("go", ("0111", "nnnn"), [("num", "n"), ("goto", 0)])
+>>> book = Book(4, 2, [add, go])
+>>> cells = assembled(book, [("label", "top"), ("add", (1, 0)), ("go", ("top",)), ("word", 9)], place=14)
+>>> [cells, listed(book, cells, place=14)]
+[(2, 7, 14, 9), [(14, ('add', (1, 0)), (2,)), (15, ('go', (14,)), (7, 14)), (1, None, (9,))]]
+
+>>> from selfwritten.books import Book
+>>> from selfwritten.deeds import run_code
+>>> lines = [("get", "a"), ("read", 0), ("num", 1), ("add", 1, 2), ("write", 0, 3)]
+>>> book = Book(4, 2, [("bump", ("010a",), lines)])
+>>> run_code(book, ("bump", (1,)), 15, (2, 6), (15,))
+((('read', 6), ('write', 6, 0)), (11, 0, 15, (2, 6)))
+
+>>> from selfwritten.books import Book
+>>> from selfwritten.deeds import run_code
+>>> lines = [("get", "a"), ("read", 0), ("num", 1), ("add", 1, 2), ("write", 0, 3), ("put", "a", 1)]
+>>> book = Book(4, 2, [("bump", ("010a",), lines)])
+>>> run_code(book, ("bump", (1,)), 15, (2, 6), (15, 0))
+((('read', 6), ('write', 6, 0)), (None, 1, 0, (2, 15)))
+
+>>> from selfwritten.books import Book
+>>> from selfwritten.checking import check_book
+>>> check_book(Book(4, 1, [("odd", ("1000",), [("get", 0), ("write", 0, 0), ("must", 0, 12)])]))
+raises HalfDone(form='odd', code=(8,), regs=(0,))
+
+>>> from selfwritten.books import Book
+>>> from selfwritten.happenings import start
+>>> from selfwritten.machines import Machine
+>>> from selfwritten.memory import drained, seen, write_by
+>>> machine = Machine(Book(4, 1, [("nop", ("0000",), ())]), depth=1)
+>>> one = write_by(machine, start(machine, (), (0,)), 0, 3, 8)
+>>> two = write_by(machine, one, 0, 3, 5)
+>>> [one.cells[3], seen(machine, one, 0, 3), two.cells[3], two.processors[0].buffer, drained(two, 0).cells[3]]
+[0, 8, 8, ((3, 5),), 5]
+
+>>> from selfwritten.books import Book
+>>> from selfwritten.happenings import start
+>>> from selfwritten.machines import Machine
+>>> book = Book(4, 1, [("nop", ("0000",), ())])
+>>> machine = Machine(book, events=[(3, "key", 9), (0, "line", 0, 5), (0, "cell", 15, 4)])
+>>> world = start(machine, [1, 2], [7])
+>>> [machine.events, machine.next_due(1), world.cells[14:], world.processors[0].facts()]
+[((0, 'line', 0, 5), (0, 'cell', 15, 4), (3, 'key', 9)), 3, (0, 4), (7, (0,), (), (5,), None, None, 0, 0, 0, 0, 0, 'on')]
 """
 
 
@@ -98,7 +157,7 @@ class Examples(unittest.TestCase):
 
     def test_each_example(self):
         examples = EXAMPLES.strip("\n").split("\n\n")
-        self.assertEqual(len(examples), 9)
+        self.assertEqual(len(examples), 17)
         for example in examples:
             with self.subTest(example):
                 self.run_example(example)

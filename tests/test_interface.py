@@ -19,6 +19,22 @@ FUNCTIONS = {
     "sheets": ["sheet(pool, limits, demands)", "is_sheet(pool, limits, demands, rows)"],
     "patterns": ["letters_of(patterns)", "fits(pattern, word)", "numbers_in(patterns, cells)",
                  "cells_of(patterns, numbers)", "fixed(patterns)"],
+    "overlaps": ["shared_code(one, other)", "first_shared(book)"],
+    "codes": ["decoded(book, cells)", "encoded(book, instruction)", "code_size(book, instruction)", "begins(book)",
+              "is_full(book)"],
+    "assembly": ["assembled(book, rows, *, place=0)", "listed(book, cells, *, place=0)"],
+    "lines": ["is_value(line)", "registers_of(form, numbers)",
+              "line_parts(pool, word, lines, registers, numbers, regs, here, after, answers)"],
+    "deeds": ["run_code(book, instruction, place, regs, answers)", "named(book, instruction)",
+              "whole(asks, answers, handed)"],
+    "halves": ["half_run(book, name)"],
+    "checking": ["check_book(book)", "is_let_by(book)"],
+    "worlds": ["check_world(machine, world)", "placed(world, q, place, regs)", "with_cell(world, x, v)",
+               "turn_of(machine, world)", "is_over(world)"],
+    "memory": ["page_of(machine, x)", "seen(machine, world, q, x)", "settle_one(world, q)", "drained(world, q)",
+               "read_by(machine, world, q, x)", "write_by(machine, world, q, x, y)"],
+    "happenings": ["raised(world, q, line)", "happen(machine, world, event)",
+                   "start(machine, image, places, *, rights=(7, 7, 7, 7, 7, 7, 7, 7), vectors=(None, None, None))"],
 }
 
 METHODS = {
@@ -29,6 +45,10 @@ METHODS = {
     ("books", "Form"): [],
     ("books", "Book"): ["__init__(self, word, registers, forms)", "read(cls, text)", "text(self)",
                         "form_named(self, name)", "__eq__(self, other)"],
+    ("machines", "Machine"): ["__init__(self, book, *, depth=0, events=(), turns=((0, 1),), processors=1)",
+                              "due(self, moment)", "next_due(self, moment)"],
+    ("worlds", "Processor"): ["facts(self)", "ended(self)"],
+    ("worlds", "World"): ["facts(self)", "__eq__(self, other)"],
 }
 
 

@@ -230,9 +230,18 @@ class Names(unittest.TestCase):
 class Statements(unittest.TestCase):
     def test_kinds(self):
         for kind in (ast.Global, ast.AsyncFunctionDef, ast.AsyncFor, ast.AsyncWith, ast.Await, ast.Starred,
-                     ast.AnnAssign, ast.Div, ast.Import, ast.GeneratorExp, ast.With, ast.Try, ast.Yield,
-                     ast.YieldFrom, ast.Set, ast.SetComp, ast.Lambda, ast.NamedExpr, ast.Match):
+                     ast.AnnAssign, ast.Div, ast.Import, ast.GeneratorExp, ast.With, ast.Yield, ast.YieldFrom,
+                     ast.Set, ast.SetComp, ast.Lambda, ast.NamedExpr, ast.Match):
             self.assertEqual([where for where, _ in nodes(kind)], [], kind)
+
+    def test_only_own_errors_are_caught(self):
+        own = {node.name for node in TREES[PACKAGE / "errors.py"].body if isinstance(node, ast.ClassDef)}
+        for where, node in nodes(ast.Try):
+            self.assertEqual((node.orelse, node.finalbody), ([], []), where)
+            for handler in node.handlers:
+                self.assertIsNone(handler.name, where)
+                caught = handler.type.elts if isinstance(handler.type, ast.Tuple) else [handler.type]
+                self.assertLessEqual({one.id for one in caught}, own, where)
 
     def test_literals(self):
         for where, node in nodes(ast.Constant):
@@ -278,6 +287,87 @@ class Statements(unittest.TestCase):
         for where, node in nodes(ast.Call):
             if isinstance(node.func, ast.Name):
                 self.assertNotIn(node.func.id, ("set", "frozenset"), where)
+
+
+CHANGING = {"append", "clear", "extend", "insert", "pop", "remove", "reverse", "setdefault", "sort", "update"}
+
+
+def walked(node):
+    """The names that a loop or a comprehension goes over, also through zip, items and the like."""
+    if isinstance(node, ast.Name):
+        return {node.id}
+    if isinstance(node, ast.IfExp):
+        return walked(node.body) | walked(node.orelse)
+    if isinstance(node, ast.BoolOp):
+        return set().union(*[walked(one) for one in node.values])
+    if isinstance(node, ast.Call) and getattr(node.func, "id", "") in ("enumerate", "zip", "reversed"):
+        return set().union(*[walked(one) for one in node.args])
+    if isinstance(node, ast.Call) and getattr(node.func, "attr", "") in ("items", "keys", "values"):
+        return walked(node.func.value)
+    return set()
+
+
+def changed_names(body):
+    """The names of what these nodes change: by an item, or by a method that changes."""
+    found = set()
+    for node in [inner for one in body for inner in ast.walk(one)]:
+        if isinstance(node, ast.Subscript) and not isinstance(node.ctx, ast.Load):
+            found.add(getattr(node.value, "id", ""))
+        if isinstance(node, ast.Call) and getattr(node.func, "attr", "") in CHANGING:
+            found.add(getattr(node.func.value, "id", ""))
+        if isinstance(node, ast.AugAssign):
+            found.add(getattr(node.target, "id", ""))
+    return found
+
+
+def with_other_names(function, names):
+    """The names, and those that the function gives to the same values."""
+    names = set(names)
+    while True:
+        more = set()
+        for node in ast.walk(function):
+            if isinstance(node, ast.Assign):
+                for target in node.targets:
+                    pair = {getattr(target, "id", "")} | walked(node.value)
+                    if "" not in pair and pair & names:
+                        more |= pair
+        if more <= names:
+            return names
+        names |= more
+
+
+def loops_that_change_what_they_walk(tree):
+    """The lines of the loops that change what they go over, under this name or another one (L23)."""
+    found = []
+    for function in [node for node in ast.walk(tree) if isinstance(node, ast.FunctionDef)]:
+        for node in ast.walk(function):
+            if isinstance(node, ast.For):
+                names = with_other_names(function, walked(node.iter))
+                if names & changed_names(node.body):
+                    found.append(node.lineno)
+    return found
+
+
+class Loops(unittest.TestCase):
+    def test_what_a_loop_walks_is_not_changed_in_it(self):
+        for path, tree in TREES.items():
+            self.assertEqual(loops_that_change_what_they_walk(tree), [], path)
+
+    def test_the_check_sees_such_loops(self):
+        shapes = (
+            "for x in xs:\n  xs.append(x)",
+            "for k, x in enumerate(xs):\n  xs[k] = x",
+            "for x in xs:\n  del xs[0]",
+            "ys = xs\nfor x in xs:\n  ys.append(x)",
+            "for k in ks:\n  ys = []\n  for x in xs:\n    ys.append(x)\n  xs = ys",
+            "for k, x in zs.items():\n  zs[k] = x",
+            "for x in xs if k else ys:\n  ys.pop()",
+        )
+        for shape in shapes:
+            text = "def f(xs, ks, zs):\n  " + shape.replace("\n", "\n  ")
+            self.assertEqual(len(loops_that_change_what_they_walk(ast.parse(text))), 1, shape)
+        fine = "def f(xs):\n  ys = list(xs)\n  for x in list(xs):\n    xs.append(x)\n  for y in ys:\n    xs.append(y)"
+        self.assertEqual(loops_that_change_what_they_walk(ast.parse(fine)), [])
 
 
 class Classes(unittest.TestCase):
