@@ -2,6 +2,7 @@
 
 import random
 import unittest
+from unittest import mock
 
 from helpers import refusal
 from model import all_runs, drawn_apart, drawn_book, is_whole, numbers_of, share
@@ -11,6 +12,7 @@ from selfwritten.codes import decoded, encoded
 from selfwritten.deeds import run_code, whole
 from selfwritten.errors import HalfDone, OneCode
 from selfwritten.halves import half_run
+from selfwritten.solving import solved
 
 GET, READ, IN, OUT, WRITE = ("get", 0), ("read", 0), ("in", 0), ("out", 0, 0), ("write", 0, 0)
 NOP = ("nop", ["0000"], ())
@@ -84,6 +86,29 @@ class Checked(unittest.TestCase):
         self.assertNotEqual(told[5][0], told[5][1])
         lines = lines[:4] + [("must", 3, 12), OUT, ("must", 3, 13)]
         self.assertIsNone(check_book(book_of(("twice", ["0000"], lines))))
+
+
+class Decisions(unittest.TestCase):
+    """[56]: at most 64 decisions for each read and must behind an effect."""
+
+    def decisions(self, *forms):
+        with mock.patch("selfwritten.halves.solved", side_effect=solved) as counted:
+            is_let_by(Book(6, 4, forms))
+        return counted.call_count
+
+    def test_how_many(self):
+        musts = [("must", 3, 12), GET, ("must", 3, 13)]
+        lines = [("get", "a"), ("get", "b"), ("get", "c"), ("num", 1), ("out", 0, 0)]
+        one, two = ("one", ["aabbcc"], lines + musts), ("two", ["000000", "nnnnnn"], lines[3:4] + [GET])
+        self.assertTrue(0 < self.decisions(one) <= 64 * 2)
+        self.assertEqual(self.decisions(two), 0)
+        self.assertEqual(self.decisions(("one", ["aabbcc"], musts[1:2] + [("must", 0, 12), ("out", 0, 0)])), 0)
+        apart = [(f"f{letter}", ["aabb" + bits], lines[:2] + lines[3:4] + [("out", 0, 0), ("must", 2, 12)])
+                 for letter, bits in (("a", "00"), ("b", "01"), ("c", "10"))]
+        self.assertTrue(0 < self.decisions(*apart) <= 64 * 3)
+
+    def test_none_ahead_of_a_shared_beginning(self):
+        self.assertEqual(self.decisions(("one", ["00000m"], [GET, OUT, READ]), ("two", ["000001"], ())), 0)
 
 
 class Facts(unittest.TestCase):

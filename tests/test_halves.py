@@ -164,6 +164,26 @@ class Forms(Case):
         self.half(GET, nine, ("less", 0, 1), ("must", 2, 12), OUT, ("num", 199), ("xor", 0, 5), ("must", 6, 13),
                   word=8, patterns=["00000000"])
 
+    def test_three_answers(self):
+        # Only with the answers in their order all musts ahead find words other than 0.
+        self.half(GET, READ, READ, ("less", 1, 2), ("must", 3, 12), READ, ("less", 2, 5), ("must", 6, 12), OUT,
+                  ("num", 5), ("xor", 2, 9), ("must", 10, 13))
+
+    def test_the_run_that_is_shown(self):
+        """A read behind the effect without musts ahead: the row of zeros, 0 for the effect, then None."""
+        shown = {effect: half_run(one_form([GET, effect, READ]), "one") for effect in (IN, OUT, WRITE)}
+        self.assertEqual(shown, {effect: ((0,), 0, (0,), (0, None)) for effect in (IN, OUT, WRITE)})
+        book = one_form([GET, READ, OUT, READ, READ], ["01an", "mmmm"], registers=2)
+        self.assertEqual(half_run(book, "one"), ((4, 0), 0, (0, 0), (0, 0, None)))
+        # The rows of the register letters: the last letter's number changes fastest.
+        book = one_form([("get", "a"), ("get", "b"), ("same", 0, 1), OUT, ("must", 2, 12)], ["00ab"], registers=2)
+        self.assertEqual(half_run(book, "one")[0], (1,))
+        # Musts ahead of which a single word is not 0, or is 0.
+        book = one_form([GET, ("num", 9), ("same", 0, 1), ("must", 2, 12), OUT, ("sub", 0, 1), ("must", 5, 13)])
+        self.assertEqual(half_run(book, "one"), ((0,), 0, (9,), (0,)))
+        book = one_form([IN, ("num", 9), ("xor", 0, 1), ("must", 2, 12)], word=8, patterns=["1111111n"])
+        self.assertEqual(half_run(book, "one")[3], (9,))
+
     def test_which_form(self):
         book = Book(4, 1, [("good", ["0000"], [GET, OUT]), ("bad", ["0001"], [GET, OUT, READ]), ("nop", ["001m"], ())])
         self.assertEqual([self.shown(book, name) for name in ("good", "bad", "nop")], [False, True, False])
