@@ -3,7 +3,7 @@
 from selfwritten.errors import BadBook, BadLine, BadSource
 from selfwritten.grammar import EFFECTS, REGISTER_LETTERS, VALUES, Grammar, line_of
 from selfwritten.patterns import fixed_bits, letters_of
-from selfwritten.tokens import finished_lines, number_of, written_line
+from selfwritten.tokens import finished_lines, headed_number, written_line
 from selfwritten.widths import check_int, is_row
 
 MOST_FORMS = 32
@@ -153,7 +153,7 @@ def _parsed(text):
     forms = []
     for at, tokens in enumerate(rows):
         if at < 2:
-            head.append(_headed(tokens, ("word", "registers")[at]))
+            head.append(headed_number(tokens, ("word", "registers")[at]))
             good = head[at] is not None
         else:
             good = _took(forms, tokens)
@@ -163,13 +163,6 @@ def _parsed(text):
     if rest != "" or len(rows) < 2:
         raise BadLine(len(rows))
     return head[0], head[1], forms
-
-
-def _headed(tokens, name):
-    """The number of one of the first two lines, or None."""
-    if len(tokens) != 2 or tokens[0] != name:
-        return None
-    return number_of(tokens[1])
 
 
 def _took(forms, tokens):

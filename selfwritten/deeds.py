@@ -88,7 +88,7 @@ class Doing:
 def handed_over(book, instruction, place, regs, asker):
     """What an instruction of the book hands over; asker has a method that answers an ask."""
     doing = Doing(book, instruction, place, regs)
-    for line in doing.form.lines:
+    for line in list(doing.form.lines):
         name = line[0]
         word = None
         if name in ASKING:
@@ -104,16 +104,21 @@ def handed_over(book, instruction, place, regs, asker):
     return doing.finished()
 
 
+def check_answers(word, answers):
+    """Returns the tuple of the answers, each None or a word of this width."""
+    check_length(answers, None)
+    for at, answer in enumerate(answers):
+        if answer is not None and not is_word(answer, word):
+            raise BadWords(at)
+    return tuple(answers)
+
+
 def run_code(book, instruction, place, regs, answers):
     """The run of an instruction: the asks made, and what is handed over."""
     form_of(book, instruction)
     check_int(place, 0, ones(book.word), "place")
     regs = check_words(regs, book.word, book.registers)
-    check_length(answers, None)
-    for at, answer in enumerate(answers):
-        if answer is not None and not is_word(answer, book.word):
-            raise BadWords(at)
-    asker = Answers(tuple(answers))
+    asker = Answers(check_answers(book.word, answers))
     handed = handed_over(book, instruction, place, regs, asker)
     return tuple(asker.asks), handed
 

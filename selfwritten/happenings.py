@@ -13,6 +13,11 @@ def raised(world, q, line):
     """The world in which this signal waits at q."""
     check_q(world, q)
     check_int(line, 1, LAST_SIGNAL, "line")
+    return with_signal(world, q, line)
+
+
+def with_signal(world, q, line):
+    """As raised, for arguments that were checked."""
     own = world.processors[q]
     if line in own.lines:
         return world
@@ -24,11 +29,16 @@ def happen(machine, world, event):
     check_world(machine, world)
     if not is_event(machine.word, machine.processors, event):
         raise BadMachine("events")
+    return happened(world, event)
+
+
+def happened(world, event):
+    """As happen, for an event of a machine of this world."""
     name = event[0]
     if name == "key":
-        return raised(world.changed(typed=world.typed + (event[1],)), 0, KEY_SIGNAL)
+        return with_signal(world.changed(typed=world.typed + (event[1],)), 0, KEY_SIGNAL)
     if name == "line":
-        return raised(world, event[1], event[2])
+        return with_signal(world, event[1], event[2])
     if name == "cell":
         return with_cell(world, event[1], event[2])
     if name == "rights":
@@ -60,7 +70,7 @@ def start(machine, image, places, *, rights=(7, 7, 7, 7, 7, 7, 7, 7), vectors=(N
         processors=tuple(processors),
     )
     for event in machine.due(0):
-        world = happen(machine, world, event)
+        world = happened(world, event)
     return world
 
 

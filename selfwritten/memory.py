@@ -23,6 +23,11 @@ def seen(machine, world, q, x):
     check_world(machine, world)
     check_q(world, q)
     check_word(world, x, "x")
+    return seen_by(world, q, x)
+
+
+def seen_by(world, q, x):
+    """As seen, for arguments that were checked."""
     for address, word in reversed(world.processors[q].buffer):
         if address == x:
             return word
@@ -59,6 +64,11 @@ def write_by(machine, world, q, x, y):
     check_q(world, q)
     check_word(world, x, "x")
     check_word(world, y, "y")
+    return written(machine, world, q, x, y)
+
+
+def written(machine, world, q, x, y):
+    """As write_by, for arguments that were checked."""
     if not has_right(machine, world, x, WRITE):
         return None
     own = world.processors[q]

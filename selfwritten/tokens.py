@@ -25,6 +25,13 @@ def finished_lines(text):
     return [piece.split(" ") for piece in pieces], rest
 
 
+def headed_number(tokens, name):
+    """The number of a line of this name and one number, or None."""
+    if len(tokens) != 2 or tokens[0] != name:
+        return None
+    return number_of(tokens[1])
+
+
 def written_line(entries):
     """The text line of a row of strings and numbers."""
     return " ".join([str(entry) for entry in entries]) + "\n"

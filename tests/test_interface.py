@@ -35,6 +35,17 @@ FUNCTIONS = {
                "read_by(machine, world, q, x)", "write_by(machine, world, q, x, y)"],
     "happenings": ["raised(world, q, line)", "happen(machine, world, event)",
                    "start(machine, image, places, *, rights=(7, 7, 7, 7, 7, 7, 7, 7), vectors=(None, None, None))"],
+    "ports": ["asked(machine, world, q, ask)"],
+    "fetching": ["fetch(machine, world, place)"],
+    "closing": ["closed(machine, world)", "can_take(world, q)", "taken(world, q, cause)", "faulted(world, q, cause)"],
+    "steps": ["step(machine, world)"],
+    "runs": ["run(machine, world, moment)", "trail(machine, world, moment)", "kinds(machine, world, moment)",
+             "leap(machine, world, moment)", "run_leaping(machine, world, moment)"],
+    "meetings": ["meeting(machine, one, other, moment)", "part_of(machine, world, moment, x)"],
+    "orders": ["order_word(house, name, d, x, y, n)", "order_part(pool, house, name, d, x, y, n)"],
+    "rules": ["rule_left(house, word, rule, words)", "rule_part(pool, house, word, rule, parts)",
+              "wrong_words(house, word, rule)", "check_rules(house, word)"],
+    "rows": ["check_row(pair, row)", "segment_of(row, at)", "handed_parts(row, index)", "price(row, at)"],
 }
 
 METHODS = {
@@ -49,6 +60,11 @@ METHODS = {
                               "due(self, moment)", "next_due(self, moment)"],
     ("worlds", "Processor"): ["facts(self)", "ended(self)"],
     ("worlds", "World"): ["facts(self)", "__eq__(self, other)"],
+    ("houses", "House"): ["__init__(self, width, registers, orders, rules)", "read(cls, text)", "text(self)",
+                          "order_named(self, name)", "__eq__(self, other)"],
+    ("pairs", "Pair"): ["__init__(self, book, house, *, longest=8)", "c(self)", "d(self)", "r(self)",
+                        "rule_for(self, op)", "line_cost(self, line)", "cost(self, name)"],
+    ("rows", "Row"): ["__init__(self, steps, late, hands)", "__eq__(self, other)"],
 }
 
 
@@ -76,11 +92,18 @@ class Interface(unittest.TestCase):
             for head in wanted:
                 self.assertIn(head, heads(own[0].body), owner)
 
+    def test_properties(self):
+        from selfwritten.pairs import Pair
+        for name in "cdr":
+            self.assertIsInstance(vars(Pair)[name], property)
+
     def test_static_and_class_methods(self):
         from selfwritten.books import Book
         from selfwritten.pools import Pool
         self.assertIsInstance(vars(Pool)["ops"], staticmethod)
         self.assertIsInstance(vars(Book)["read"], classmethod)
+        from selfwritten.houses import House
+        self.assertIsInstance(vars(House)["read"], classmethod)
 
 
 if __name__ == "__main__":

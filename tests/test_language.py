@@ -230,9 +230,28 @@ class Names(unittest.TestCase):
 class Statements(unittest.TestCase):
     def test_kinds(self):
         for kind in (ast.Global, ast.AsyncFunctionDef, ast.AsyncFor, ast.AsyncWith, ast.Await, ast.Starred,
-                     ast.AnnAssign, ast.Div, ast.Import, ast.GeneratorExp, ast.With, ast.Yield, ast.YieldFrom,
+                     ast.AnnAssign, ast.Div, ast.Import, ast.GeneratorExp, ast.With, ast.YieldFrom,
                      ast.Set, ast.SetComp, ast.Lambda, ast.NamedExpr, ast.Match):
             self.assertEqual([where for where, _ in nodes(kind)], [], kind)
+
+    def test_generators(self):
+        makers = {node.name for _, node in nodes(ast.FunctionDef)
+                  if [one for one in ast.walk(node) if isinstance(one, ast.Yield)]}
+        for path, tree in TREES.items():
+            yields = [node for node in ast.walk(tree) if isinstance(node, ast.Yield)]
+            alone = [node.value for node in ast.walk(tree) if isinstance(node, ast.Expr)]
+            self.assertTrue(all(one in alone for one in yields), path)
+            iterated = [node.iter for node in ast.walk(tree) if isinstance(node, (ast.For, ast.comprehension))]
+            for node in ast.walk(tree):
+                if isinstance(node, ast.Call) and getattr(node.func, "id", "") in makers:
+                    self.assertIn(node, iterated, f"{path.name}:{node.lineno}")
+        for where, node in nodes((ast.Name, ast.arg)):
+            if getattr(node, "id", getattr(node, "arg", "")) in makers:
+                self.assertIsInstance(node, ast.Name, where)
+                self.assertIsInstance(node.ctx, ast.Load, where)
+        heads = [node.name for _, node in nodes(ast.FunctionDef)]
+        self.assertTrue(all(heads.count(name) == 1 for name in makers))
+        self.assertNotIn("next", {node.id for _, node in nodes(ast.Name)})
 
     def test_only_own_errors_are_caught(self):
         own = {node.name for node in TREES[PACKAGE / "errors.py"].body if isinstance(node, ast.ClassDef)}
@@ -289,85 +308,160 @@ class Statements(unittest.TestCase):
                 self.assertNotIn(node.func.id, ("set", "frozenset"), where)
 
 
-CHANGING = {"append", "clear", "extend", "insert", "pop", "remove", "reverse", "setdefault", "sort", "update"}
+CHANGING = {"append", "clear", "extend", "insert", "pop", "remove", "reverse", "setdefault", "sort", "update", "add",
+            "discard"}
+PASSING = {"enumerate", "zip", "reversed", "iter"}
+VIEWS = {"items", "keys", "values", "get", "setdefault"}
 
 
-def walked(node):
-    """The names that a loop or a comprehension goes over, also through zip, items and the like."""
+def roots(node):
+    """The names from which the value is reached: by fields, items, choices and views, but not by a copy."""
     if isinstance(node, ast.Name):
         return {node.id}
+    if isinstance(node, (ast.Attribute, ast.Starred)):
+        return roots(node.value)
+    if isinstance(node, ast.Subscript):
+        return set() if isinstance(node.slice, ast.Slice) else roots(node.value)
     if isinstance(node, ast.IfExp):
-        return walked(node.body) | walked(node.orelse)
+        return roots(node.body) | roots(node.orelse)
     if isinstance(node, ast.BoolOp):
-        return set().union(*[walked(one) for one in node.values])
-    if isinstance(node, ast.Call) and getattr(node.func, "id", "") in ("enumerate", "zip", "reversed"):
-        return set().union(*[walked(one) for one in node.args])
-    if isinstance(node, ast.Call) and getattr(node.func, "attr", "") in ("items", "keys", "values"):
-        return walked(node.func.value)
+        return set().union(*[roots(one) for one in node.values])
+    if isinstance(node, ast.Call) and getattr(node.func, "id", "") in PASSING:
+        return set().union(*[roots(one) for one in node.args])
+    if isinstance(node, ast.Call) and getattr(node.func, "attr", "") in VIEWS:
+        return roots(node.func.value)
     return set()
 
 
-def changed_names(body):
-    """The names of what these nodes change: by an item, or by a method that changes."""
+def targets(node):
+    """The names that a target assigns."""
+    return {one.id for one in ast.walk(node) if isinstance(one, ast.Name) and isinstance(one.ctx, ast.Store)}
+
+
+def changed_names(body, methods=(), functions=()):
+    """The names from which that is reached which these nodes change.
+
+    methods has the names of own methods that change their object, functions
+    pairs of the name of an own function and the number of an argument that it changes.
+    """
     found = set()
     for node in [inner for one in body for inner in ast.walk(one)]:
-        if isinstance(node, ast.Subscript) and not isinstance(node.ctx, ast.Load):
-            found.add(getattr(node.value, "id", ""))
-        if isinstance(node, ast.Call) and getattr(node.func, "attr", "") in CHANGING:
-            found.add(getattr(node.func.value, "id", ""))
+        if isinstance(node, (ast.Subscript, ast.Attribute)) and not isinstance(node.ctx, ast.Load):
+            found |= roots(node.value)
+        if isinstance(node, ast.Call) and getattr(node.func, "attr", "") in CHANGING | set(methods):
+            found |= roots(node.func.value)
         if isinstance(node, ast.AugAssign):
-            found.add(getattr(node.target, "id", ""))
+            found |= roots(node.target)
+        if isinstance(node, ast.Call):
+            for at, one in enumerate(node.args):
+                if (getattr(node.func, "id", ""), at) in functions:
+                    found |= roots(one)
     return found
 
 
 def with_other_names(function, names):
-    """The names, and those that the function gives to the same values."""
+    """The names, those that they are reached from, and all that the function gives to something reached from these."""
+    pairs = []
+    for node in ast.walk(function):
+        if isinstance(node, ast.Assign):
+            pairs += [(targets(target), roots(node.value)) for target in node.targets]
+        if isinstance(node, ast.For):
+            pairs.append((targets(node.target), roots(node.iter)))
     names = set(names)
+    for back in (True, False):
+        for _ in pairs:
+            for told, reached in pairs:
+                if (told if back else reached) & names:
+                    names |= reached if back else told
+    return names
+
+
+def changing(trees):
+    """The own methods that change their object, and the own functions that change an argument."""
+    methods, functions = set(), set()
     while True:
-        more = set()
-        for node in ast.walk(function):
-            if isinstance(node, ast.Assign):
-                for target in node.targets:
-                    pair = {getattr(target, "id", "")} | walked(node.value)
-                    if "" not in pair and pair & names:
-                        more |= pair
-        if more <= names:
-            return names
-        names |= more
+        before = len(methods) + len(functions)
+        for tree in trees:
+            for owner in [tree] + [node for node in ast.walk(tree) if isinstance(node, ast.ClassDef)]:
+                for node in [node for node in owner.body if isinstance(node, ast.FunctionDef)]:
+                    changed = changed_names(node.body, methods, functions)
+                    for at, one in enumerate(node.args.args):
+                        if not with_other_names(node, {one.arg}) & changed:
+                            continue
+                        if isinstance(owner, ast.Module):
+                            functions.add((node.name, at))
+                        elif at == 0 and node.name != "__init__":
+                            methods.add(node.name)
+        if len(methods) + len(functions) == before:
+            return methods, functions
 
 
-def loops_that_change_what_they_walk(tree):
-    """The lines of the loops that change what they go over, under this name or another one (L23)."""
+def loops_that_change_what_they_walk(tree, methods, functions):
+    """The lines of the loops and comprehensions that change what they go over, or what is reached from the same name."""
     found = []
     for function in [node for node in ast.walk(tree) if isinstance(node, ast.FunctionDef)]:
         for node in ast.walk(function):
+            walked, body = set(), []
             if isinstance(node, ast.For):
-                names = with_other_names(function, walked(node.iter))
-                if names & changed_names(node.body):
-                    found.append(node.lineno)
+                walked, body = roots(node.iter), node.body
+            if isinstance(node, (ast.ListComp, ast.DictComp, ast.GeneratorExp, ast.SetComp)):
+                walked = set().union(*[roots(one.iter) for one in node.generators])
+                body = [node]
+            if walked and with_other_names(function, walked) & changed_names(body, methods, functions):
+                found.append(node.lineno)
     return found
 
 
 class Loops(unittest.TestCase):
     def test_what_a_loop_walks_is_not_changed_in_it(self):
+        methods, functions = changing(list(TREES.values()))
         for path, tree in TREES.items():
-            self.assertEqual(loops_that_change_what_they_walk(tree), [], path)
+            self.assertEqual(loops_that_change_what_they_walk(tree, methods, functions), [], path)
+
+    SHAPES = (
+        "for x in xs:\n  xs.append(x)",
+        "for k, x in enumerate(xs):\n  xs[k] = x",
+        "for x in xs:\n  del xs[0]",
+        "ys = xs\nfor x in xs:\n  ys.append(x)",
+        "for k in ks:\n  ys = []\n  for x in xs:\n    ys.append(x)\n  xs = ys",
+        "for k, x in zs.items():\n  zs[k] = x",
+        "for x in xs if k else ys:\n  ys.pop()",
+        "for x in xs.form.lines:\n  xs.words.append(x)",
+        "for x in xs.rows:\n  xs.left -= 1",
+        "for x in xs.rows[0]:\n  xs.table[x] = 1",
+        "for k, x in zip(ks, xs.rows):\n  xs.a.b = k",
+        "rows = xs.rows\nfor x in rows:\n  xs.words.append(x)",
+        "rows = xs.rows\nfor x in xs.lines:\n  rows.append(x)",
+        "for row in xs.rows:\n  for x in row.cells:\n    xs.words.append(x)",
+        "for x in xs.rows:\n  xs.taken(x)",
+        "for x in xs.rows:\n  given(ks, xs)",
+        "ys = [xs.words.append(x) for x in xs.rows]",
+        "ys = [xs.taken(x) for x in xs.rows]",
+        "ys = {k: given(k, xs.words) for k in xs.rows}",
+    )
+
+    def lines_of(self, shape):
+        text = "def f(xs, ks, zs):\n  " + shape.replace("\n", "\n  ")
+        text += "\ndef given(one, other):\n  other.append(one)\n"
+        text += "class Xs:\n  def taken(self, x):\n    self.kept(x)\n  def kept(self, x):\n    self.words[x] = 1\n"
+        tree = ast.parse(text)
+        return loops_that_change_what_they_walk(tree, *changing([tree]))
 
     def test_the_check_sees_such_loops(self):
-        shapes = (
-            "for x in xs:\n  xs.append(x)",
-            "for k, x in enumerate(xs):\n  xs[k] = x",
-            "for x in xs:\n  del xs[0]",
-            "ys = xs\nfor x in xs:\n  ys.append(x)",
-            "for k in ks:\n  ys = []\n  for x in xs:\n    ys.append(x)\n  xs = ys",
-            "for k, x in zs.items():\n  zs[k] = x",
-            "for x in xs if k else ys:\n  ys.pop()",
-        )
-        for shape in shapes:
-            text = "def f(xs, ks, zs):\n  " + shape.replace("\n", "\n  ")
-            self.assertEqual(len(loops_that_change_what_they_walk(ast.parse(text))), 1, shape)
-        fine = "def f(xs):\n  ys = list(xs)\n  for x in list(xs):\n    xs.append(x)\n  for y in ys:\n    xs.append(y)"
-        self.assertEqual(loops_that_change_what_they_walk(ast.parse(fine)), [])
+        for shape in self.SHAPES:
+            self.assertNotEqual(self.lines_of(shape), [], shape)
+
+    def test_the_check_lets_other_loops_by(self):
+        for shape in (
+            "ys = list(xs)\nfor x in list(xs):\n  xs.append(x)\nfor y in ys:\n  xs.append(y)",
+            "for x in list(xs.form.lines):\n  xs.words.append(x)",
+            "for x in xs.rows:\n  ks.append(x)",
+            "for x in xs.rows:\n  given(x, ks)",
+            "for x in sorted(xs.rows):\n  xs.taken(x)",
+            "for x in [y for y in xs.rows]:\n  xs.words.append(x)",
+            "ys = [xs.told(x) for x in xs.rows]",
+        ):
+            self.assertEqual(self.lines_of(shape), [], shape)
 
 
 class Classes(unittest.TestCase):

@@ -1,0 +1,102 @@
+"""Runs that meet, and steps that have to do with a cell."""
+
+from selfwritten.closing import closed_by
+from selfwritten.errors import BadWorld
+from selfwritten.fetching import fetched
+from selfwritten.happenings import happened
+from selfwritten.ports import answered
+from selfwritten.runs import is_going
+from selfwritten.steps import begun, fulfilled, stepped, stepping
+from selfwritten.widths import check_int, ones
+from selfwritten.worlds import check_world
+
+
+def meeting(machine, one, other, moment):
+    """The first moment at which the runs of both worlds are equal, or None."""
+    check_world(machine, one)
+    check_world(machine, other)
+    if one.moment != other.moment:
+        raise BadWorld("moment")
+    check_int(moment, 0, None, "moment")
+    shown, noted = 0, 0
+    while one.moment <= moment:
+        # What was shown or noted stays, so runs that differ there never meet.
+        if one.shown[shown:] != other.shown[shown:] or one.noted[noted:] != other.noted[noted:]:
+            return None
+        shown, noted = len(one.shown), len(one.noted)
+        if _rest(one) == _rest(other):
+            return one.moment
+        if not is_going(one, moment) or not is_going(other, moment):
+            return None
+        _, one = stepped(machine, one)
+        _, other = stepped(machine, other)
+    return None
+
+
+def _rest(world):
+    """The facts of a world without what was shown and noted."""
+    return world.changed(shown=(), noted=()).facts()
+
+
+def part_of(machine, world, moment, x):
+    """The moment ahead of the run's first step that has to do with cell x, or None."""
+    check_world(machine, world)
+    check_int(moment, 0, None, "moment")
+    check_int(x, 0, ones(machine.word), "x")
+    while is_going(world, moment):
+        start = world.moment
+        met, world = _met(machine, world, x)
+        if met:
+            return start
+    return None
+
+
+def _met(machine, world, x):
+    """Whether the world's step has to do with cell x, and the world behind it."""
+    q = stepping(machine, world)
+    kind, world = begun(world, q)
+    watch = Watch(machine, world, q, x)
+    if kind is None:
+        instruction, looks, fault = fetched(machine, world, world.processors[q].place)
+        watch.met = any([look[:2] == ("cell", x) for look in looks])
+        _, world = fulfilled(watch, instruction, fault)
+    after = closed_by(machine, world)
+    return watch.met or _met_in_events(machine.due(after.moment), world, x), after
+
+
+def _met_in_events(events, world, x):
+    """Whether one of the events, happening in this world, sets cell x or settles a write to it."""
+    for event in events:
+        if event[:2] == ("cell", x):
+            return True
+        if event[0] == "drain" and [address for address, _ in world.processors[event[1]].buffer[:1]] == [x]:
+            return True
+        world = happened(world, event)
+    return False
+
+
+class Watch:
+    """An asker that sees whether the asks have to do with cell x."""
+
+    def __init__(self, machine, world, q, x):
+        self.machine = machine
+        self.world = world
+        self.q = q
+        self.x = x
+        self.met = False
+
+    def answer(self, ask):
+        before = self._waiting()
+        word, self.world = answered(self.machine, self.world, self.q, ask)
+        if ask[0] == "read":
+            met = ask[1] == self.x and word is not None and self.x not in before
+        else:
+            if ask[0] == "write" and word is not None:
+                before = before + [ask[1]]
+            met = self.x in before[:len(before) - len(self._waiting())]
+        self.met = self.met or met
+        return word
+
+    def _waiting(self):
+        """The addresses of the waiting writes, the oldest first."""
+        return [address for address, _ in self.world.processors[self.q].buffer]

@@ -1,0 +1,172 @@
+"""Meetings, and steps that have to do with a cell ([83])."""
+
+import random
+import unittest
+
+from helpers import WRONG_NUMBERS, refusal
+from plain import BOOKS, Plain, drawn_machine, drawn_start
+from selfwritten.happenings import start
+from selfwritten.machines import Machine
+from selfwritten.meetings import meeting, part_of
+from selfwritten.memory import write_by
+from selfwritten.ports import asked
+from selfwritten.runs import run, trail
+from selfwritten.worlds import with_cell
+from worldly import apart, machine_of, nop_book
+
+
+def with_own(world, q, **more):
+    return world.with_processor(q, world.processors[q].changed(**more))
+
+
+class Meetings(unittest.TestCase):
+    def wanted(self, machine, one, other, moment):
+        pairs = zip(trail(machine, one, max(moment, one.moment)), trail(machine, other, max(moment, one.moment)))
+        found = [first.moment for first, second in pairs if first == second and first.moment <= moment]
+        return found[0] if found else None
+
+    def test_against_two_runs(self):
+        rng = random.Random(83)
+        told = []
+        for number in range(250):
+            machine = drawn_machine(rng, 4)
+            one = run(machine, drawn_start(rng, machine), rng.randrange(5))
+            other = one
+            for _ in range(rng.randrange(1, 3)):
+                told_cells = [event[2] for event in machine.events if event[1] == "cell"]
+                other = with_cell(other, rng.choice(told_cells or list(range(16))), rng.randrange(16))
+            if number % 5 == 0:
+                other = with_own(other, 0, regs=tuple(rng.randrange(16) for _ in other.processors[0].regs))
+            moment = rng.choice((0, 3, 10, 40))
+            told.append(meeting(machine, one, other, moment))
+            self.assertEqual(told[-1], self.wanted(machine, one, other, moment))
+            self.assertEqual(meeting(machine, other, one, moment), told[-1])
+        self.assertGreater(len(set(told)), 8)
+        self.assertIn(None, told)
+
+    def test_equal_worlds_meet_at_once(self):
+        machine = machine_of()
+        world = start(machine, (), (0,)).changed(moment=7)
+        self.assertEqual([meeting(machine, world, world, moment) for moment in (8, 7, 6, 0)], [7, 7, None, None])
+
+    def test_runs_that_end(self):
+        machine = machine_of(processors=2)
+        world = start(machine, (), (0, 0))
+        over = with_own(with_own(world, 0, status="fallen"), 1, status="fallen")
+        self.assertIsNone(meeting(machine, world, over, 50))
+        self.assertIsNone(meeting(machine, over, with_cell(over, 3, 3), 50))
+        self.assertEqual(meeting(machine, over, over, 50), 0)
+
+    def test_what_was_shown_stays(self):
+        machine = machine_of()
+        world = start(machine, (), (0,))
+        self.assertIsNone(meeting(machine, world, world.changed(shown=((0, 0, 3),)), 10))
+        self.assertIsNone(meeting(machine, world, world.changed(noted=((0, 0, 3, 0),)), 10))
+
+    def test_refused(self):
+        machine = machine_of(processors=2)
+        world = start(machine, (), (0, 0))
+        later = world.changed(moment=1)
+        for moment in (-1, *WRONG_NUMBERS):
+            self.assertEqual(refusal(meeting, machine, world, world, moment), ("BadNumber", "moment"))
+            self.assertEqual(refusal(meeting, machine, world, later, moment), ("BadWorld", "moment"))
+        self.assertEqual(refusal(meeting, machine, world, None, -1), ("BadWorld", "world"))
+        self.assertEqual(refusal(meeting, machine, None, later, -1), ("BadWorld", "world"))
+        self.assertEqual(refusal(meeting, machine_of(), world, later, -1), ("BadWorld", "world"))
+        stopped = asked(machine, world, 0, ("out", 8, 0))[1]
+        self.assertEqual(refusal(meeting, machine, stopped, world, 5), ("BadWorld", "world"))
+        self.assertEqual(refusal(meeting, machine, world, stopped, 5), ("BadWorld", "world"))
+        self.assertIsNone(meeting(machine, world, stopped, 0))
+
+
+class Parts(unittest.TestCase):
+    def test_against_a_machine_of_the_tests(self):
+        rng = random.Random(830)
+        told = set()
+        for number in range(200):
+            machine = drawn_machine(rng, 4)
+            world = drawn_start(rng, machine)
+            for x in range(16):
+                plain, wanted = Plain(machine, world, x), None
+                while wanted is None and plain.moment < 25 and not plain.over():
+                    before = plain.moment
+                    plain.step()
+                    wanted = before if plain.met else None
+                self.assertEqual(part_of(machine, world, 25, x), wanted)
+                told.add(wanted)
+        self.assertGreater(len(told), 10)
+
+    def test_worlds_that_differ_in_one_cell(self):
+        rng = random.Random(831)
+        for _ in range(120):
+            machine = drawn_machine(rng, 4)
+            world = drawn_start(rng, machine)
+            x = rng.randrange(16)
+            other = with_cell(world, x, (world.cells[x] + rng.randrange(1, 16)) % 16)
+            at = part_of(machine, world, 30, x)
+            self.assertEqual(part_of(machine, other, 30, x), at)
+            for one, two in zip(trail(machine, world, 30), trail(machine, other, 30)):
+                if at is not None and one.moment > at:
+                    break
+                self.assertEqual(list(apart(one, two)), [("cells", x)])
+
+    def of(self, image, x, moment=9, depth=0, events=(), rights=(7,) * 8, regs=(0, 0)):
+        machine = Machine(BOOKS[4], depth=depth, events=events)
+        world = with_own(start(machine, image, (0,), rights=rights), 0, regs=regs)
+        return part_of(machine, world, moment, x)
+
+    def test_looks(self):
+        self.assertEqual([self.of((0, 4, 3), x) for x in range(5)], [0, 1, 1, 2, 3])
+        self.assertEqual([self.of((0, 4, 3), x, 1) for x in range(3)], [0, None, None])
+        # Also the looks of a fetching that gives a fault; behind it the run has ended.
+        self.assertEqual([self.of((0, 9, 15), x) for x in range(4)], [0, 1, 1, None])
+        self.assertEqual([self.of((0, 9, 3), x, rights=[7, 6] + [7] * 6) for x in range(4)], [0, 1, None, None])
+
+    def test_reads(self):
+        self.assertEqual(self.of((0, 5), 12, regs=(12, 0)), 1)
+        # A read that is answered None has nothing to do with the cell.
+        self.assertIsNone(self.of((0, 5), 12, 2, rights=[7] * 6 + [3, 7], regs=(12, 0)))
+        # Neither has one that is answered by a waiting write; the write settles at the next one.
+        self.assertEqual(self.of((6, 5, 5, 6), 12, depth=1, regs=(12, 3)), 3)
+        self.assertIsNone(self.of((6, 5, 5, 6), 12, 3, depth=1, regs=(12, 3)))
+        self.assertEqual(self.of((6, 0, 6, 0), 12, depth=1, regs=(12, 3)), 2)
+
+    def test_settlings(self):
+        self.assertEqual(self.of((6, 0), 12, regs=(12, 0)), 0)
+        self.assertIsNone(self.of((6, 0), 12, 5, depth=1, regs=(12, 0)))
+        self.assertEqual(self.of((6, 0, 9, 6), 12, depth=3, regs=(12, 0)), 2)
+        self.assertEqual(self.of((6, 0, 9, 8), 12, depth=3, regs=(12, 0)), 2)
+        self.assertIsNone(self.of((6, 0), 12, 5, rights=[7] * 6 + [5, 7], regs=(12, 0)))
+
+    def test_events(self):
+        self.assertEqual(self.of((), 12, events=[(4, "cell", 12, 0)]), 3)
+        self.assertIsNone(self.of((), 12, events=[(4, "cell", 13, 0)]))
+        self.assertIsNone(self.of((), 12, 3, events=[(4, "cell", 12, 0)]))
+        self.assertEqual(self.of((6,), 12, depth=2, events=[(4, "drain", 0)], regs=(12, 0)), 3)
+        self.assertIsNone(self.of((6,), 11, depth=2, events=[(4, "drain", 0)], regs=(12, 0)))
+        self.assertIsNone(self.of((6,), 12, 5, depth=2, events=[(1, "line", 0, 3)], regs=(12, 0)))
+        events = [(4, "drain", 0), (4, "drain", 0)]
+        machine = Machine(nop_book(), depth=2, events=events)
+        world = write_by(machine, write_by(machine, start(machine, (), (0,)), 0, 12, 5), 0, 13, 6)
+        self.assertEqual([part_of(machine, world, 9, x) for x in (12, 13, 14)], [3, 3, None])
+
+    def test_all_steps_of_the_run_count(self):
+        machine = Machine(BOOKS[4], processors=2, turns=[(0, 3), (1, 2)])
+        world = start(machine, (), (0, 8))
+        self.assertEqual([part_of(machine, world, 20, x) for x in (2, 3, 8, 9, 10)], [2, 5, 3, 4, 8])
+
+    def test_refused(self):
+        machine = machine_of(processors=2)
+        world = start(machine, (), (0, 0))
+        for moment in (-1, *WRONG_NUMBERS):
+            self.assertEqual(refusal(part_of, machine, world, moment, -1), ("BadNumber", "moment"))
+            self.assertEqual(refusal(part_of, machine_of(), world, moment, -1), ("BadWorld", "world"))
+        for x in (-1, 16, *WRONG_NUMBERS):
+            self.assertEqual(refusal(part_of, machine, world, 3, x), ("BadNumber", "x"))
+        stopped = asked(machine, world, 0, ("out", 8, 0))[1]
+        self.assertEqual(refusal(part_of, machine, stopped, 5, 3), ("BadWorld", "world"))
+        self.assertIsNone(part_of(machine, stopped, 0, 3))
+
+
+if __name__ == "__main__":
+    unittest.main()
