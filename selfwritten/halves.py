@@ -1,7 +1,7 @@
 """Forms that can fail behind their effect."""
 
-from selfwritten.grammar import NUMBER_LETTERS, REGISTER_LETTERS
-from selfwritten.lines import line_parts, registers_of
+from selfwritten.grammar import NUMBER_LETTERS
+from selfwritten.lines import line_parts, register_rows, registers_of
 from selfwritten.patterns import cells_of
 from selfwritten.pools import Pool
 from selfwritten.solving import solved
@@ -14,22 +14,13 @@ def half_run(book, name):
     form = book.form_named(name)
     pool = Pool(book.word)
     limits = _limits(book, form)
-    for row in _register_rows(form):
+    for row in register_rows(form):
         parts = _parts(pool, book, form, registers_of(form, row), len(limits))
         found = _failing(pool, limits, form, parts)
         if found is not None:
             at, words = found
             return _shown(book, form, row, at, words)
     return None
-
-
-def _register_rows(form):
-    """All rows of numbers of the register letters, the last one's changing fastest."""
-    rows = [()]
-    for letter, bits in form.letters:
-        if letter in REGISTER_LETTERS:
-            rows = [row + (number,) for row in rows for number in range(1 << bits)]
-    return rows
 
 
 def _limits(book, form):

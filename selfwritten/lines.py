@@ -20,6 +20,15 @@ def registers_of(form, numbers):
     return {letter: told[letter] for letter in told if letter in REGISTER_LETTERS}
 
 
+def register_rows(form):
+    """All rows of numbers of the register letters, the last one's changing fastest."""
+    rows = [()]
+    for letter, bits in form.letters:
+        if letter in REGISTER_LETTERS:
+            rows = [row + (number,) for row in rows for number in range(1 << bits)]
+    return rows
+
+
 def line_parts(pool, word, lines, registers, numbers, regs, here, after, answers):
     """For each line its part, None for a line that is no value line.
 

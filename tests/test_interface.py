@@ -46,6 +46,20 @@ FUNCTIONS = {
     "rules": ["rule_left(house, word, rule, words)", "rule_part(pool, house, word, rule, parts)",
               "wrong_words(house, word, rule)", "check_rules(house, word)"],
     "rows": ["check_row(pair, row)", "segment_of(row, at)", "handed_parts(row, index)", "price(row, at)"],
+    "rowruns": ["run_row(pair, row, place, regs, answers)"],
+    "roads": ["straight(machine, world, entry, longest)", "along(machine, world, places)", "road_of(book, pairs)",
+              "again(machine, world, road)", "holds(world, road)", "is_fresh(machine, world, road)",
+              "is_there(machine, world, road)"],
+    "roadruns": ["run_road(book, road, regs, answers)", "go_through(book, road, regs, answers)"],
+    "templates": ["base(pair, road, i)", "template(pair, road)"],
+    "roadsteps": ["stops(machine, world, q, moment, thrown)", "drive(machine, world, road, moment)"],
+    "joins": ["joined(book, *roads)", "beginning(book, road, many)"],
+    "sketches": ["sketch_of_road(pool, book, road)", "sketch_of_row(pool, pair, row, place)",
+                 "play(sketch, regs, answers)"],
+    "judging": ["judged(one, other)"],
+    "letting": ["let_by(pair, road, row)", "is_let_by_judge(pair, road, row)", "dear_at(pair, road, row)"],
+    "likeness": ["forms_alike(book, other, name)", "books_alike(book, other)", "codes_alike(book, one, other, place)"],
+    "needless": ["needless_musts(book, road)", "sure_keeps(book, road)", "ever_asked(book, road)"],
 }
 
 METHODS = {
@@ -65,6 +79,10 @@ METHODS = {
     ("pairs", "Pair"): ["__init__(self, book, house, *, longest=8)", "c(self)", "d(self)", "r(self)",
                         "rule_for(self, op)", "line_cost(self, line)", "cost(self, name)"],
     ("rows", "Row"): ["__init__(self, steps, late, hands)", "__eq__(self, other)"],
+    ("rowruns", "Running"): ["__init__(self, pair, row, place, regs)", "pending(self)", "go(self, answer=None)",
+                             "hand(self, index)", "copy(self)"],
+    ("roads", "Road"): ["entry(self)", "__len__(self)", "__iter__(self)", "__eq__(self, other)"],
+    ("sketches", "Sketch"): ["__init__(self, pool, word, registers, items)"],
 }
 
 
