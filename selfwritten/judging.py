@@ -34,7 +34,7 @@ def difference(pool, limits, first, one, other):
     while True:
         words = judge.apart(ours, theirs)
         if words is not None:
-            answers = [0 if unknown is None else words[unknown] for unknown in asked]
+            answers = [0 if told is None else words[told] for told in asked]
             return words, tuple(answers) + _last_answer(pool, ours, theirs, words)
         if ours.stop[:3] != theirs.stop[:3] or ours.stop[0] != "ask":
             return None
@@ -143,7 +143,7 @@ class Judge:
     def words_for(self, demands):
         """Words that keep the demands, or None."""
         words = [0] * len(self.limits)
-        for group in grouped(self.pool, demands):
+        for group in list(grouped(self.pool, demands)):
             found = self.group_words(group)
             if found is None:
                 return None

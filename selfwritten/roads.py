@@ -30,10 +30,9 @@ class Road:
         return iter(self.pairs)
 
     def __eq__(self, other):
-        return isinstance(other, Road) and self._told() == other._told()
-
-    def _told(self):
-        return (self.places, self.instructions, self.looks, self.way)
+        if not isinstance(other, Road):
+            return False
+        return self.pairs == other.pairs and self.looks == other.looks and self.way == other.way
 
 
 def straight(machine, world, entry, longest):

@@ -36,10 +36,9 @@ class Row:
         self.hands = _checked_hands(hands, len(self.steps), len(self.late), self.ahead[-1] + 2)
 
     def __eq__(self, other):
-        return isinstance(other, Row) and self._told() == other._told()
-
-    def _told(self):
-        return (self.steps, self.late, self.hands)
+        if not isinstance(other, Row):
+            return False
+        return self.steps == other.steps and self.late == other.late and self.hands == other.hands
 
 
 def _checked_steps(steps):

@@ -162,7 +162,7 @@ def spoiled(rng, pair, row):
             step[2] = 12 + (step[2] - 11) % 4
         elif step[0] == "keep" and spot == 2:
             step[2] = (step[2] + 1) % (top + 1)
-        elif step[0] in ("in", "out") and step[spot] == dict(zip(("in", "out"), (step[2], step[1])))[step[0]]:
+        elif (step[0], spot) in (("in", 2), ("out", 1)):
             step[spot] = (step[spot] + 1) % 6
         elif step[0] == "order" and spot in (1, 5):
             spot = 2

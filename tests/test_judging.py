@@ -322,7 +322,7 @@ class Drawn(Shown):
                 at = asking[asked - 1]
                 without = Row(row.steps[:at] + row.steps[at + 1:], row.late, row.hands)
                 self.check(one, sketch_of_row(pool, pair, without, road.entry), False)
-        self.assertGreater(told[True], 5)
+        self.assertGreater(told[True], 2)
         self.assertGreater(told[False], 50)
 
     def most_asks(self, pair, road):
