@@ -20,7 +20,6 @@ ENTRIES = {
     "end": "",
 }
 
-ASKING = ("read", "write", "in", "out", "tick")
 LEAVES = ("read", "write", "in", "out", "tick", "must", "keep", "end")
 LATE = ("slot", "reg", "num")
 

@@ -157,7 +157,8 @@ class Taking(unittest.TestCase):
             self.assertEqual(apart(world, taken(world, 1, 8)), wanted)
 
     def test_faulted(self):
-        self.assertEqual(faulted(self.world, 1, 10), taken(self.world, 1, 10))
+        for cause in (1, 10, 15):
+            self.assertEqual(faulted(self.world, 1, cause), taken(self.world, 1, cause))
         for q, more in ((0, {}), (1, {"mode": 1}), (1, {"vector": None}), (1, {"mode": 1, "vector": None})):
             for status in STATUSES:
                 world = with_own(self.world, q, status=status, **more)

@@ -157,6 +157,22 @@ class Chains(Shown):
         told = self.check(self.sketch(tick, ask, tick, self.last), self.sketch(tick, ask, self.last), False)
         self.assertEqual((len(told[1]), told[1][0]), (2, 0))
 
+    def test_several_answers(self):
+        b, c = self.pool.unknown(3), self.pool.unknown(4)
+        tick = ("ask", "tick", None, (), self.hand, None)
+        asks = [("ask", "read", None, (self.r,), self.hand, self.a), tick, ("ask", "in", 1, (), self.hand, b), tick,
+                ("ask", "in", 2, (), self.hand, c)]
+        apart = [self.pool.apply("xor", part, self.pool.num(word)) for part, word in ((self.a, 5), (b, 9), (c, 14), (self.s, 3))]
+        one = apart[0]
+        for part in apart[1:]:
+            one = self.pool.apply("or", one, part)
+        differs = self.pool.apply("same", one, self.pool.num(0))
+        hand = (None, 1, self.pool.apply("add", self.pool.num(4), differs), (self.r, self.s))
+        told = self.check(self.sketch(*asks, self.last), self.sketch(*asks, ("end", hand)), False)
+        self.assertEqual((told[0][1], told[1]), (3, (5, 0, 9, 0, 14)))
+        told = self.check(self.sketch(*asks, tick, self.last), self.sketch(*asks, ("leave", one, hand), tick, self.last), False)
+        self.assertEqual((told[0][1], told[1]), (3, (5, 0, 9, 0, 14)))
+
     def test_numbers_are_decided_at_once(self):
         for word in (0, 1, 63):
             leave = ("leave", self.pool.num(word), self.hand)

@@ -164,6 +164,29 @@ class Forms(unittest.TestCase):
             if told is not None:
                 self.check_shown(first, second, first.forms[0], told)
 
+    def test_letters_of_few_bits(self):
+        for letter, patterns in (("m", ("00mm", "nnnn")), ("n", ("00nn", "mmm0")), ("m", ("m000",)), ("n", ("n0mm",))):
+            bits = "".join(patterns).count(letter)
+            most = 2 ** bits - 1
+            one = [("num", letter), ("put", 0, 0)]
+            for mask in range(16):
+                other = [("num", letter), ("num", mask), ("and", 0, 1), ("put", 0, 2)]
+                first, second = self.pair(one, other, patterns)
+                told = forms_alike(first, second, "odd")
+                self.assertEqual(told is None, mask & most == most)
+                if told is not None:
+                    self.check_shown(first, second, first.forms[0], told)
+
+    def test_several_reads(self):
+        reads = [("get", 0), ("read", 0), ("read", 1), ("read", 2), ("in", 3)]
+        for other, alike in (([("put", 0, 4)], True), ([("put", 0, 3)], False), ([("put", 0, 1)], False)):
+            first, second = self.pair(reads + [("put", 0, 4)], reads + other)
+            told = forms_alike(first, second, "odd")
+            self.assertEqual(told is None, alike)
+            if told is not None:
+                self.assertEqual(len(told[3]), 4)
+                self.check_shown(first, second, first.forms[0], told)
+
     def test_a_difference_at_one_place_registers_and_number(self):
         here = [("here",), ("get", 0), ("num", "n"), ("xor", 0, 1), ("xor", 1, 2), ("or", 3, 4), ("num", 250), ("xor", 0, 6),
                 ("or", 5, 7), ("num", 0), ("same", 8, 9), ("put", 0, 10)]
@@ -188,6 +211,10 @@ class Forms(unittest.TestCase):
                       Book(4, 1, [("odd", ("0001", "0000"), ())])):
             self.assertEqual(refusal(forms_alike, one, other, "odd"), ("BadPair",))
             self.assertEqual(refusal(books_alike, one, other), ("BadPair",))
+        for registers in (2, 4):
+            other = Book(4, registers, [("odd", ("0001",), ()), ("own", ("0010",), ())])
+            self.assertEqual(refusal(books_alike, one, other), ("BadPair",))
+            self.assertEqual(refusal(forms_alike, one, other, "own"), ("BadPair",))
 
 
 class Books(unittest.TestCase):
@@ -274,6 +301,7 @@ class Codes(unittest.TestCase):
         good = ("nop", ())
         for wrong in (None, 3, "nop", ("nop",), ("odd", ()), ("nop", (1,)), ("set", (16,)), ("set", ())):
             self.assertEqual(refusal(codes_alike, book, wrong, None, -1), ("BadSource", 0))
+            self.assertEqual(refusal(codes_alike, book, wrong, good, -1), ("BadSource", 0))
             self.assertEqual(refusal(codes_alike, book, good, wrong, -1), ("BadSource", 0))
         for place in (-1, 16, *WRONG_NUMBERS):
             self.assertEqual(refusal(codes_alike, book, good, good, place), ("BadNumber", "place"))

@@ -54,6 +54,7 @@ class Meetings(unittest.TestCase):
         world = start(machine, (), (0, 0))
         over = with_own(with_own(world, 0, status="fallen"), 1, status="fallen")
         self.assertIsNone(meeting(machine, world, over, 50))
+        self.assertIsNone(meeting(machine, over, world, 50))
         self.assertIsNone(meeting(machine, over, with_cell(over, 3, 3), 50))
         self.assertEqual(meeting(machine, over, over, 50), 0)
 
@@ -62,6 +63,10 @@ class Meetings(unittest.TestCase):
         world = start(machine, (), (0,))
         self.assertIsNone(meeting(machine, world, world.changed(shown=((0, 0, 3),)), 10))
         self.assertIsNone(meeting(machine, world, world.changed(noted=((0, 0, 3, 0),)), 10))
+        for name, rows in (("shown", ((0, 0, 3), (0, 0, 4), (0, 0, 5))), ("noted", ((0, 0, 3, 0), (0, 0, 4, 0), (0, 0, 5, 0)))):
+            one = world.changed(**{name: (rows[0], rows[2])})
+            self.assertIsNone(meeting(machine, one, world.changed(**{name: (rows[1], rows[2])}), 10))
+            self.assertEqual(meeting(machine, one, world.changed(**{name: (rows[0], rows[2])}), 10), 0)
 
     def test_refused(self):
         machine = machine_of(processors=2)

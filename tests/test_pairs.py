@@ -83,7 +83,7 @@ class Rules(unittest.TestCase):
 
     def test_no_rule(self):
         pair = Pair(Book(4, 1, [("nop", ("0000",), ())]), House(4, 3, ORDERS, [rule_of("add", 0, 4, 4)]))
-        for op in ("sub", "num", "get", "here", "", None, 3):
+        for op in ("sub", "num", "get", "here", "", None, 3, ["add"]):
             self.assertEqual(refusal(pair.rule_for, op), ("NoRule", op, "", ()))
         for line, op in ((("num", 3), "num"), (("here",), "num"), (("next",), "num"), (("less", 0, 1), "less")):
             self.assertEqual(refusal(pair.line_cost, line), ("NoRule", op, "", ()))

@@ -98,6 +98,8 @@ class Asks(unittest.TestCase):
         self.check(1, ("out", 4, 10), 0, {("rights", 5): 2}, world)
         self.check(1, ("out", 4, 0), 0, {("rights", 5): 0}, world)
         self.check(0, ("out", 4, 12), 0, {("rights", 0): 4}, world)
+        self.check(0, ("out", 4, 11), 0, {("rights", 0): 3}, world)
+        self.check(0, ("out", 4, 15), 0, {}, world)
 
     def test_out_settles(self):
         machine = machine_of(processors=3, depth=3)

@@ -183,6 +183,10 @@ class Told(unittest.TestCase):
         pairs[0][1][1][0] = 0
         self.assertEqual(road.instructions[0], ("set", (1, 3)))
 
+    def test_of_one_and_of_eight_instructions(self):
+        for many in (1, 8):
+            self.assertEqual(len(road_of(BOOK, [(0, jmp(0))] * many)), many)
+
     def test_refused(self):
         for pairs in (*WRONG_ROWS, (), [(0, jmp(0))] * 9):
             self.assertEqual(refusal(road_of, BOOK, pairs), ("BadSource", 0))

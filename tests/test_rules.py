@@ -223,7 +223,10 @@ class Checked(unittest.TestCase):
         house = House(6, 3, ORDERS, [("add", WAYS["add"][0]), ("num", WAYS["num"][0])])
         self.assertIsNone(check_rules(house, 6))
         self.assertEqual(refusal(check_rules, house, 5)[:2], ("RuleWrong", "add"))
-        self.assertIsNone(check_rules(House(6, 3, ORDERS, []), 4))
+        bare = House(6, 3, ORDERS, [])
+        self.assertEqual([check_rules(bare, word) for word in (1, 4, 6)], [None] * 3)
+        for word in (0, 7, -1, *WRONG_NUMBERS):
+            self.assertEqual(refusal(check_rules, bare, word), ("BadNumber", "word"))
 
 
 if __name__ == "__main__":

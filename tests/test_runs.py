@@ -2,6 +2,7 @@
 
 import random
 import unittest
+from unittest.mock import patch
 
 from helpers import WRONG_NUMBERS, refusal
 from plain import BOOKS, Plain, drawn_image, drawn_machine, drawn_start
@@ -142,6 +143,19 @@ class Leaps(unittest.TestCase):
         wanted = {"moment": 30, "left": 970, ("cells", 1): 9, "typed": (4,), ("lines", 0): (1, 2), ("alarm", 0): None}
         self.assertEqual(apart(world, leap(machine, world, 99)), wanted)
 
+    def test_events_and_alarms_of_the_present_moment_are_past(self):
+        machine, world = self.resting(events=[(30, "cell", 1, 9), (50, "cell", 1, 8)], alarm=None)
+        world = leap(machine, world, 99)
+        self.assertEqual(world.moment, 30)
+        self.assertEqual(leap(machine, world, 99).moment, 50)
+        self.assertEqual(leap(machine, with_own(world, 0, alarm=30), 99).moment, 50)
+        self.assertEqual(leap(machine, with_own(world, 0, alarm=31), 99).moment, 31)
+
+    def test_no_step_is_made_where_a_leap_is_possible(self):
+        machine, world = self.resting(turns=[(0, 7)])
+        with patch("selfwritten.runs.stepped", side_effect=AssertionError):
+            self.assertEqual(run_leaping(machine, world, 500).moment, 500)
+
     def test_the_turn_ends(self):
         machine, world = self.resting(turns=[(0, 5), (1, 3)], processors=2)
         self.assertEqual(apart(world, leap(machine, world, 99)), {"moment": 5, "turn": 1, "left": 3})
@@ -150,7 +164,8 @@ class Leaps(unittest.TestCase):
         machine, world = self.resting()
         for one in (with_own(world, 0, lines=(7,)), with_own(world, 0, status="on"), with_own(world, 0, status="fallen")):
             self.assertEqual(leap(machine, one, 50), one)
-        self.assertEqual(leap(machine, world.changed(moment=50), 50).moment, 50)
+        for moment in (50, 49, 0):
+            self.assertEqual(leap(machine, world.changed(moment=50), moment).moment, 50)
         # Only the processor of the present turn counts.
         machine, world = self.resting(turns=[(0, 5), (1, 3)], processors=2)
         world = world.changed(turn=1, left=2)
