@@ -1,9 +1,7 @@
 """Drawing the items of a sketch one after another."""
 
 from selfwritten.deeds import REFUSED
-from selfwritten.lines import line_parts
-
-ANSWERED = ("read", "in")
+from selfwritten.lines import ANSWERED, line_parts
 
 
 class Drawing:

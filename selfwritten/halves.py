@@ -1,12 +1,10 @@
 """Forms that can fail behind their effect."""
 
 from selfwritten.grammar import NUMBER_LETTERS
-from selfwritten.lines import line_parts, register_rows, registers_of
+from selfwritten.lines import ANSWERED, line_parts, register_rows, registers_of
 from selfwritten.patterns import cells_of
 from selfwritten.pools import Pool
 from selfwritten.solving import solved
-
-ANSWERED = ("read", "in")
 
 
 def half_run(book, name):

@@ -1,7 +1,7 @@
 """The judge: whether two sketches do the same."""
 
-from selfwritten.drawing import ANSWERED
 from selfwritten.groups import grouped
+from selfwritten.lines import ANSWERED
 from selfwritten.sketches import ask_words
 from selfwritten.solving import solved
 

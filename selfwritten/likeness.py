@@ -1,11 +1,11 @@
 """Forms, books and instructions that do the same."""
 
 from selfwritten.codes import form_of
-from selfwritten.drawing import ANSWERED, Drawing, drawn_form
+from selfwritten.drawing import Drawing, drawn_form
 from selfwritten.errors import BadPair
 from selfwritten.grammar import NUMBER_LETTERS
 from selfwritten.judging import difference, judged
-from selfwritten.lines import register_rows, registers_of
+from selfwritten.lines import ANSWERED, register_rows, registers_of
 from selfwritten.patterns import cells_of
 from selfwritten.pools import Pool
 from selfwritten.roads import road_of

@@ -3,6 +3,9 @@
 from selfwritten.grammar import REGISTER_LETTERS, VALUES
 from selfwritten.lifting import lifted
 
+# Lines whose word is the answer to their ask.
+ANSWERED = ("read", "in")
+
 
 def is_value(line):
     """Whether the line of a form is a value line."""
@@ -48,7 +51,7 @@ def line_parts(pool, word, lines, registers, numbers, regs, here, after, answers
             part = here
         elif name == "next":
             part = after
-        elif name in ("read", "in"):
+        elif name in ANSWERED:
             part = answers[answered]
             answered += 1
         elif is_value(line):

@@ -47,14 +47,19 @@ def straight_of(machine, world, entry, longest):
     """As straight, for arguments that were checked."""
     pairs, looks = [], []
     place = entry
-    while place is not None and len(pairs) < longest:
-        instruction, more, _ = fetched(machine, world, place)
-        looks.extend(more)
-        if instruction is None:
-            break
-        pairs.append((place, instruction))
-        place = next_place(machine.book, place, instruction)
+    while place is not None and len(pairs) < longest and _is_added(machine, world, place, pairs, looks):
+        place = next_place(machine.book, place, pairs[-1][1])
     return Road(pairs, looks, ("straight", longest)) if pairs else None
+
+
+def _is_added(machine, world, place, pairs, looks):
+    """Whether there is an instruction at the place; it is put to the pairs, and what was looked at to the looks."""
+    instruction, more, _ = fetched(machine, world, place)
+    looks.extend(more)
+    if instruction is None:
+        return False
+    pairs.append((place, instruction))
+    return True
 
 
 def next_place(book, place, instruction):
@@ -80,12 +85,9 @@ def along_of(machine, world, places):
     for place in places:
         if expected is not None and place != expected:
             break
-        instruction, more, _ = fetched(machine, world, place)
-        looks.extend(more)
-        if instruction is None:
+        if not _is_added(machine, world, place, pairs, looks):
             break
-        pairs.append((place, instruction))
-        expected = next_place(machine.book, place, instruction)
+        expected = next_place(machine.book, place, pairs[-1][1])
     return Road(pairs, looks, ("along", places)) if pairs else None
 
 

@@ -1,9 +1,9 @@
 """Sketches: all runs of a road or a house row, described over the parts of a pool."""
 
 from selfwritten.deeds import REFUSED, Answers, check_answers
-from selfwritten.drawing import ANSWERED, Drawing, drawn_form
+from selfwritten.drawing import Drawing, drawn_form
 from selfwritten.errors import TooMany
-from selfwritten.lines import letters_told, registers_of
+from selfwritten.lines import ANSWERED, letters_told, registers_of
 from selfwritten.operations import OPS
 from selfwritten.orders import order_part
 from selfwritten.pools import LAST_UNKNOWN

@@ -96,7 +96,7 @@ class Lines:
     def _ruled(self, op, number):
         """The orders of the rule of an operation, or of num for this number."""
         house = self.pair.house
-        return rule_steps(house, self.pair.book.word, self.pair.rule_for(op), PLACES, number)
+        return rule_steps(house, self.pair.book.word, self.pair.rule_for(op), dict(PLACES), number)
 
     def _number(self, line):
         """The word of a num, here or next."""

@@ -164,6 +164,35 @@ class Modules(unittest.TestCase):
                         self.assertFalse([one for one in inner if isinstance(one, (list, dict, set))], path)
 
 
+    def test_module_level_tables_are_read_only(self):
+        tables = {}
+        for path, tree in TREES.items():
+            for node in tree.body:
+                if isinstance(node, ast.Assign) and isinstance(node.value, (ast.List, ast.Dict)):
+                    tables[path.stem, node.targets[0].id] = True
+        for path, tree in TREES.items():
+            own = {name for stem, name in tables if stem == path.stem}
+            for node in tree.body:
+                if isinstance(node, ast.ImportFrom):
+                    stem = node.module.rpartition(".")[2]
+                    own |= {alias.name for alias in node.names if (stem, alias.name) in tables}
+            fine = set()
+            for node in ast.walk(tree):
+                if isinstance(node, ast.Subscript) and isinstance(node.ctx, ast.Load):
+                    fine.add(id(node.value))
+                elif isinstance(node, ast.Compare):
+                    fine |= {id(one) for one in node.comparators}
+                elif isinstance(node, (ast.For, ast.comprehension)):
+                    fine.add(id(node.iter))
+                elif isinstance(node, ast.Call) and getattr(node.func, "attr", "") in ("get", "items", "keys", "values"):
+                    fine.add(id(node.func.value))
+                elif isinstance(node, ast.Call) and getattr(node.func, "id", "") in ("len", "list", "dict", "sorted", "tuple"):
+                    fine |= {id(one) for one in node.args}
+            for node in ast.walk(tree):
+                if isinstance(node, ast.Name) and isinstance(node.ctx, ast.Load) and node.id in own:
+                    self.assertIn(id(node), fine, f"{path.name}:{node.lineno}")
+
+
 def bound_at(node):
     if isinstance(node, ast.ImportFrom):
         return [alias.name for alias in node.names]

@@ -151,6 +151,51 @@ class Reasons(unittest.TestCase):
         self.assertIsNone(self.told(self.row(late=late, hands=[(1, 0), (4, 3)]), road))
 
 
+class LateOperations(unittest.TestCase):
+    """Hands with late operations, at K = k and at K > k."""
+
+    BOOK = Book(4, 2, [INC, LD, ("both", ("0011",), [("get", 0), ("get", 1), ("add", 0, 1), ("sub", 0, 1), ("put", 0, 2),
+                                                     ("put", 1, 3)])])
+
+    def told(self, width, late, hands, steps=(), road=((5, ("both", ())),)):
+        pair = Pair(self.BOOK, house_of(4, width, 3, ops=("add", "sub", "num")))
+        road = road_of(self.BOOK, road)
+        row = Row([*steps, ("end",)], late, hands)
+        return refusal(let_by, pair, road, row), price(row, len(steps))
+
+    def test_with_and_without_a_mask(self):
+        late = [("slot", 0), ("slot", 1), ("num", 6), ("add", 0, 1), ("sub", 0, 1), ("num", 15), ("and", 3, 5), ("and", 4, 5)]
+        for width in (4, 5, 12):
+            self.assertEqual(self.told(width, late, [(2, 0, 1), (2, 6, 7)]), (None, 5))
+            for hand, many in (((2, 3, 7), 4), ((2, 6, 4), 4), ((2, 3, 4), 3)):
+                told, cost = self.told(width, late, [(2, 0, 1), hand])
+                self.assertEqual((cost, told is None), (many, width == 4))
+                if told is not None:
+                    (first, second), answers = told[1:]
+                    wrong = (hand[1] == 3 and first + second > 15) or (hand[2] == 4 and first < second)
+                    self.assertTrue(wrong and answers == ())
+
+    def test_house_registers_in_hands(self):
+        late = [("num", 6), ("reg", 0), ("reg", 1), ("num", 15), ("add", 1, 2), ("sub", 1, 2), ("and", 4, 3), ("and", 5, 3)]
+        steps = [("load", 0, 0), ("load", 1, 1)]
+        for width in (4, 12):
+            self.assertEqual(self.told(width, late, [(0, 1, 2), (0, 6, 7)], steps), (None, 7))
+            self.assertEqual(self.told(width, late, [(0, 1, 2), (0, 7, 6)], steps)[0][0], "Unlike")
+            self.assertEqual(self.told(width, late, [(0, 1, 2), (0, 6, 7)], steps[:1])[0][0], "Unlike")
+
+    def test_late_words_are_reckoned_behind_each_segment(self):
+        road = [(5, ("inc", ())), (6, ("inc", ()))]
+        late = [("slot", 0), ("slot", 1), ("num", 5), ("num", 6), ("num", 7), ("num", 1), ("add", 0, 5), ("add", 6, 5),
+                ("num", 15), ("and", 6, 8), ("and", 7, 8)]
+        for width in (4, 7):
+            hands = [(2, 0, 1), (3, 9, 1), (4, 10, 1)]
+            self.assertEqual(self.told(width, late, hands, [("tick",)], road), (None, 5))
+            for at, hand in ((1, (3, 10, 1)), (2, (4, 9, 1)), (2, (3, 10, 1)), (1, (3, 0, 1)), (2, (4, 10, 0))):
+                wrong = hands[:at] + [hand] + hands[at + 1:]
+                told = self.told(width, late, wrong, [("tick",)], road)[0]
+                self.assertEqual((told[0], told[2]), ("Unlike", (None,) if at == 1 else (0,)))
+
+
 class Drawn(unittest.TestCase):
     def drawn(self, seed, many, most=8):
         rng = random.Random(seed)

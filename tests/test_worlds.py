@@ -4,9 +4,17 @@ import random
 import unittest
 
 from helpers import WRONG_NUMBERS, WRONG_ROWS, refusal
+from selfwritten.closing import closed
+from selfwritten.fetching import fetch
 from selfwritten.happenings import happen, raised, start
 from selfwritten.machines import Machine
+from selfwritten.meetings import meeting, part_of
 from selfwritten.memory import drained, read_by, seen, write_by
+from selfwritten.ports import asked
+from selfwritten.roads import again, along, is_fresh, is_there, road_of, straight
+from selfwritten.roadsteps import drive, stops
+from selfwritten.runs import kinds, leap, run, run_leaping, trail
+from selfwritten.steps import step
 from selfwritten.worlds import Processor, World, check_world, is_over, placed, turn_of, with_cell
 from worldly import OWN, apart, drawn_world, machine_of, nop_book
 
@@ -100,6 +108,10 @@ class Equal(unittest.TestCase):
             self.assertFalse(world == other)
 
 
+def trail_of(machine, world, moment):
+    return list(trail(machine, world, moment))
+
+
 class Checked(unittest.TestCase):
     def setUp(self):
         self.machine = machine_of(registers=2, processors=2, depth=1, turns=[(0, 3), (1, 2)])
@@ -108,10 +120,18 @@ class Checked(unittest.TestCase):
     def refused(self, world, machine=None):
         """Every function that is given a machine and a world refuses it, whatever else is wrong."""
         machine = machine or self.machine
+        road = road_of(self.machine.book, [(0, ("nop", ()))])
         calls = ((check_world, ()), (turn_of, ()), (seen, (9, 99)), (read_by, (9, 99)), (write_by, (9, 99, 99)),
-                 (happen, (None,)))
+                 (happen, (None,)), (asked, (9, None)), (fetch, (99,)), (closed, ()), (step, ()), (run, (-1,)),
+                 (kinds, (-1,)), (leap, (-1,)), (run_leaping, (-1,)), (trail_of, (-1,)), (meeting, (None, -1)),
+                 (part_of, (-1, 99)), (straight, (99, 0)), (along, (None,)), (again, (road,)), (is_fresh, (road,)),
+                 (is_there, (road,)), (stops, (9, -1, False)), (drive, (road, -1)))
+        self.assertEqual(refusal(meeting, machine, self.good_of(machine), world, -1), ("BadWorld", "world"))
         for call, rest in calls:
             self.assertEqual(refusal(call, machine, world, *rest), ("BadWorld", "world"), call)
+
+    def good_of(self, machine):
+        return start(machine, (), (0,) * machine.processors)
 
     def good(self, world, machine=None):
         self.assertIsNone(check_world(machine or self.machine, world))
