@@ -18,7 +18,8 @@ def closed(machine, world):
 def closed_by(machine, world):
     """As closed, for arguments that were checked."""
     world = _turned(machine, world)
-    for event in machine.due(world.moment):
+    events = machine.due(world.moment)
+    for event in events:
         world = happened(world, event)
     for q in range(machine.processors):
         own = world.processors[q]

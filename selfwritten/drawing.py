@@ -13,10 +13,10 @@ class Drawing:
         self.drawn = []
         self.following = first
 
-    def leave(self, test, hand):
+    def draw_leave(self, test, hand):
         self.drawn.append(("leave", test, hand))
 
-    def ask(self, name, port, parts, hand):
+    def draw_ask(self, name, port, parts, hand):
         """Draws an ask; returns the part of its answer, or None."""
         answer = None
         if name in ANSWERED:
@@ -25,7 +25,7 @@ class Drawing:
         self.drawn.append(("ask", name, port, parts, hand, answer))
         return answer
 
-    def end(self, hand):
+    def draw_end(self, hand):
         self.drawn.append(("end", hand))
 
     def answers_ahead(self, many):
@@ -58,10 +58,10 @@ def _draw_line(drawing, line, parts, state):
     """Draws the leave or the ask of a line, if it has one."""
     name = line[0]
     if name == "must":
-        drawing.leave(parts[line[1]], (line[2],) + state)
+        drawing.draw_leave(parts[line[1]], (line[2],) + state)
     elif name == "in":
-        drawing.ask(name, line[1], (), (None,) + state)
+        drawing.draw_ask(name, line[1], (), (None,) + state)
     elif name == "out":
-        drawing.ask(name, line[1], (parts[line[2]],), (None,) + state)
+        drawing.draw_ask(name, line[1], (parts[line[2]],), (None,) + state)
     elif name in ("read", "write"):
-        drawing.ask(name, None, tuple([parts[number] for number in line[1:]]), (REFUSED[name],) + state)
+        drawing.draw_ask(name, None, tuple([parts[number] for number in line[1:]]), (REFUSED[name],) + state)

@@ -41,7 +41,7 @@ def difference(pool, limits, first, one, other):
         judge.take(ours.tests() + theirs.tests())
         unknown = first + len([told for told in asked if told is not None])
         asked.append(unknown if ours.stop[1] in ANSWERED else None)
-        ours, theirs = Stretch(one, ours.behind), Stretch(other, theirs.behind)
+        ours, theirs = Stretch(one, ours.rest), Stretch(other, theirs.rest)
 
 
 def _last_answer(pool, ours, theirs, words):
@@ -70,7 +70,7 @@ class Stretch:
             at += 1
         self.leaves = chain[begin:at]
         self.stop = chain[at]
-        self.behind = at + 1
+        self.rest = at + 1
 
     def tests(self):
         """The tests of all leaves."""

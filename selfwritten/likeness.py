@@ -51,7 +51,7 @@ def _chain(pool, book, form, registers, first):
     numbers = {letter: pool.unknown(book.registers + 1 + at) for at, letter in enumerate(letters)}
     drawing = Drawing(pool, book.word, first)
     place, left = drawn_form(drawing, form, registers, numbers, here, after, (0, here, regs))
-    drawing.end((None, 1, place, left))
+    drawing.draw_end((None, 1, place, left))
     return tuple(drawing.drawn)
 
 

@@ -42,10 +42,10 @@ def sketch_of_road(pool, book, road):
     for i, (at, instruction) in enumerate(road):
         if i > 0:
             if forms[i - 1].goto is not None:
-                drawing.leave(pool.apply("same", place, pool.num(at)), (None, i, place, regs))
-            drawing.ask("tick", None, (), (None, i, place, regs))
+                drawing.draw_leave(pool.apply("same", place, pool.num(at)), (None, i, place, regs))
+            drawing.draw_ask("tick", None, (), (None, i, place, regs))
         place, regs = _drawn_instruction(drawing, forms[i], instruction[1], at, (i, place, regs))
-    drawing.end((None, len(road), place, regs))
+    drawing.draw_end((None, len(road), place, regs))
     return Sketch(pool, book.word, book.registers, drawing.drawn)
 
 
@@ -122,21 +122,21 @@ def _drawn_step(drawing, held, row, at):
     cause = step[2] if name == "must" else REFUSED.get(name)
     hand = (cause, boundary) + held.hand(row, boundary)
     if name == "must":
-        drawing.leave(held.words[step[1]], hand)
+        drawing.draw_leave(held.words[step[1]], hand)
     elif name == "keep":
-        drawing.leave(held.pool.apply("same", held.words[step[1]], held.pool.num(step[2])), hand)
+        drawing.draw_leave(held.pool.apply("same", held.words[step[1]], held.pool.num(step[2])), hand)
     elif name == "read":
-        held.words[step[1]] = drawing.ask(name, None, (held.words[step[2]],), hand)
+        held.words[step[1]] = drawing.draw_ask(name, None, (held.words[step[2]],), hand)
     elif name == "in":
-        held.words[step[1]] = drawing.ask(name, step[2], (), hand)
+        held.words[step[1]] = drawing.draw_ask(name, step[2], (), hand)
     elif name == "write":
-        drawing.ask(name, None, (held.words[step[1]], held.words[step[2]]), hand)
+        drawing.draw_ask(name, None, (held.words[step[1]], held.words[step[2]]), hand)
     elif name == "out":
-        drawing.ask(name, step[1], (held.words[step[2]],), hand)
+        drawing.draw_ask(name, step[1], (held.words[step[2]],), hand)
     elif name == "tick":
-        drawing.ask(name, None, (), hand)
+        drawing.draw_ask(name, None, (), hand)
     else:
-        drawing.end(hand)
+        drawing.draw_end(hand)
 
 
 def play(sketch, regs, answers):

@@ -247,6 +247,11 @@ class Names(unittest.TestCase):
         for where, node in nodes(ast.Attribute):
             self.assertIn(node.attr, assigned | methods | METHODS, where)
 
+    def test_no_name_is_a_method_here_and_an_attribute_there(self):
+        methods = {one.name for _, node in nodes(ast.ClassDef) for one in node.body if isinstance(one, ast.FunctionDef)}
+        kept = {node.attr for _, node in nodes(ast.Attribute) if isinstance(node.ctx, ast.Store)}
+        self.assertEqual(methods & kept, set())
+
     def test_no_name_is_a_method_and_an_attribute(self):
         for where, node in nodes(ast.ClassDef):
             methods = [one.name for one in node.body if isinstance(one, ast.FunctionDef)]
