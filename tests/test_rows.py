@@ -66,6 +66,9 @@ class Wrong(unittest.TestCase):
     def test_end_stands_once_and_last(self):
         for steps in ([], [("tick",)], STEPS[:-1], STEPS + [("tick",)], STEPS + [("end",)], [("end",), ("end",)]):
             self.assertEqual(wrong(steps, None, None), ("BadRow", len(steps)))
+            self.assertEqual(wrong(steps), ("BadRow", len(steps)))
+            hands = [(0, 1)] * (steps.count(("tick",)) + 2)
+            self.assertEqual(wrong(steps, hands=hands), ("BadRow", len(steps)))
         # A wrong step is told ahead of it.
         self.assertEqual(wrong([("end",), ("end",), None]), ("BadRow", 2))
 
