@@ -5,7 +5,7 @@ from selfwritten.errors import BadWorld
 from selfwritten.fetching import fetched
 from selfwritten.happenings import happened
 from selfwritten.ports import answered
-from selfwritten.runs import is_going
+from selfwritten.runs import dozed, idle_steps, is_going, leapt
 from selfwritten.steps import begun, fulfilled, stepped, stepping
 from selfwritten.widths import check_int, ones
 from selfwritten.worlds import check_world
@@ -20,16 +20,15 @@ def meeting(machine, one, other, moment):
     check_int(moment, 0, None, "moment")
     shown, noted = 0, 0
     while one.moment <= moment:
-        # What was shown or noted stays, so runs that differ there never meet.
-        if one.shown[shown:] != other.shown[shown:] or one.noted[noted:] != other.noted[noted:]:
+        shown = _alike(one.shown, other.shown, shown)
+        noted = _alike(one.noted, other.noted, noted)
+        if not _may_meet(one, other, shown, noted):
             return None
-        shown, noted = len(one.shown), len(one.noted)
-        if _rest(one) == _rest(other):
+        if len(one.shown) == len(other.shown) and len(one.noted) == len(other.noted) and _rest(one) == _rest(other):
             return one.moment
         if not is_going(one, moment) or not is_going(other, moment):
             return None
-        _, one = stepped(machine, one)
-        _, other = stepped(machine, other)
+        one, other = _next_worlds(machine, one, other, moment)
     return None
 
 
@@ -38,12 +37,48 @@ def _rest(world):
     return world.changed(shown=(), noted=()).facts()
 
 
+def _alike(one, other, first):
+    """How many entries at the beginning of both rows are equal; as many as `first` are so."""
+    at = first
+    while at < min(len(one), len(other)) and one[at] == other[at]:
+        at += 1
+    return at
+
+
+def _may_meet(one, other, shown, noted):
+    """Whether the runs may still show and note the same; so many entries of both are equal.
+
+    What was shown or noted stays, and what comes has a moment that is not past.
+    So an entry that only one has must lie at a moment to come.
+    """
+    for alike, ours, theirs in ((shown, one.shown, other.shown), (noted, one.noted, other.noted)):
+        if alike < min(len(ours), len(theirs)):
+            return False
+        ahead = ours[alike:alike + 1] + theirs[alike:alike + 1]
+        if ahead and ahead[0][0] < one.moment:
+            return False
+    return True
+
+
+def _next_worlds(machine, one, other, moment):
+    """The worlds of both runs one step later, or behind as many idle steps as both can leap over."""
+    many = min(idle_steps(machine, one, moment), idle_steps(machine, other, moment))
+    if many > 0:
+        return leapt(machine, one, many), leapt(machine, other, many)
+    _, one = stepped(machine, one)
+    _, other = stepped(machine, other)
+    return one, other
+
+
 def part_of(machine, world, moment, x):
     """The moment ahead of the run's first step that has to do with cell x, or None."""
     check_world(machine, world)
     check_int(moment, 0, None, "moment")
     check_int(x, 0, ones(machine.word), "x")
     while is_going(world, moment):
+        many = idle_steps(machine, world, moment)
+        if many > 1:
+            world = dozed(world, many - 1)
         start = world.moment
         met, world = _met(machine, world, x)
         if met:

@@ -7,6 +7,9 @@ from selfwritten.orders import order_word
 from selfwritten.rows import boundary_of, check_row, late_of
 from selfwritten.widths import check_int, check_words, is_word, ones
 
+# Steps that ask.
+ASKING = ("read", "in", "write", "out", "tick")
+
 
 class Running:
     """A house row that was entered, and what its house registers and slots have by now."""
@@ -41,10 +44,10 @@ class Running:
         """Does the next step; returns None, or what is handed over."""
         if self.at == len(self._row.steps):
             raise IsOver()
-        asks = self.pending() is not None
+        step = self._row.steps[self.at]
+        asks = step[0] in ASKING
         if asks and answer is not None and not is_word(answer, self._pair.book.word):
             raise BadNumber("answer")
-        step = self._row.steps[self.at]
         if self._leaves(step, asks and answer is None):
             boundary = boundary_of(self._row, self.at)
             place, regs = self.hand(boundary)
@@ -92,6 +95,20 @@ class Running:
                 found[at] = self.words[entry[1]] if entry[0] == "reg" else entry[1]
         words = tuple([found[at] for at in self._row.hands[index]])
         return words[0], words[1:]
+
+    def unanswered(self):
+        """The step at which the row is left if nothing more is answered, and what is handed over; nothing changes."""
+        at, done = self.at, self.done
+        words, slots = list(self.words), dict(self.slots)
+        handed = None
+        while handed is None:
+            step = self._row.steps[self.at]
+            handed = self.go()
+        self.at = at
+        self.done = done
+        self.words = words
+        self.slots = slots
+        return step, handed
 
     def copy(self):
         """Another Running in the same state."""

@@ -105,8 +105,9 @@ def _checked_hands(hands, steps, late, many):
 
 def check_row(pair, row):
     """Raises unless the row fits the pair."""
+    bounds = _bounds(pair)
     for at, step in enumerate(row.steps):
-        if not _step_fits(pair, step):
+        if not _step_fits(pair.house, bounds, step):
             raise BadRow(at)
     for at, entry in enumerate(row.late):
         if not _late_fits(pair.house, entry):
@@ -116,16 +117,20 @@ def check_row(pair, row):
             raise BadRow(len(row.steps) + len(row.late) + at)
 
 
-def _step_fits(pair, step):
-    if step[0] == "order":
-        return _order_fits(pair.house, step)
-    bounds = {
+def _bounds(pair):
+    """For each sign of an entry that is bounded the least and the greatest number."""
+    return {
         "r": (0, pair.house.registers - 1),
         "p": (0, LAST_IN),
         "q": (0, LAST_OUT),
         "c": (12, 15),
         "v": (0, ones(pair.book.word)),
     }
+
+
+def _step_fits(house, bounds, step):
+    if step[0] == "order":
+        return _order_fits(house, step)
     for sign, entry in zip(ENTRIES[step[0]], step[1:]):
         low, high = bounds.get(sign, (0, entry))
         if not low <= entry <= high:

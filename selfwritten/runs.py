@@ -36,17 +36,22 @@ def kinds(machine, world, moment):
 def leap(machine, world, moment):
     """The world behind as many idle steps as can be made at once."""
     _check(machine, world, moment)
-    many = _idle_steps(machine, world, moment)
-    return world if many == 0 else _leapt(machine, world, many)
+    many = idle_steps(machine, world, moment)
+    return world if many == 0 else leapt(machine, world, many)
 
 
 def run_leaping(machine, world, moment):
     """The last world of the run, made with leaps."""
     _check(machine, world, moment)
+    return run_on(machine, world, moment)
+
+
+def run_on(machine, world, moment):
+    """As run_leaping, for arguments that were checked."""
     while is_going(world, moment):
-        many = _idle_steps(machine, world, moment)
+        many = idle_steps(machine, world, moment)
         if many > 0:
-            world = _leapt(machine, world, many)
+            world = leapt(machine, world, many)
         else:
             _, world = stepped(machine, world)
     return world
@@ -62,7 +67,7 @@ def is_going(world, moment):
     return world.moment < moment and not is_over(world)
 
 
-def _idle_steps(machine, world, moment):
+def idle_steps(machine, world, moment):
     """How many idle steps a leap makes at once."""
     own = world.processors[machine.turns[world.turn][0]]
     if world.moment >= moment or own.status != "resting" or own.lines:
@@ -77,7 +82,12 @@ def _idle_steps(machine, world, moment):
     return many
 
 
-def _leapt(machine, world, many):
-    # Nothing but the moment and the turn's rest changes ahead of the last of these steps.
-    ahead = world.changed(moment=world.moment + many - 1, left=world.left - many + 1)
-    return closed_by(machine, ahead)
+def dozed(world, many):
+    """The world behind idle steps that are not the last ones of a leap."""
+    # Nothing but the moment and the turn's rest changes in them.
+    return world.changed(moment=world.moment + many, left=world.left - many)
+
+
+def leapt(machine, world, many):
+    """The world behind a leap of so many steps."""
+    return closed_by(machine, dozed(world, many - 1))
