@@ -40,7 +40,7 @@ class Examples(unittest.TestCase):
 
     def test_each_example(self):
         examples = EXAMPLES.strip("\n").split("\n\n")
-        self.assertEqual(len(examples), 30)
+        self.assertEqual(len(examples), 45)
         for example in examples:
             with self.subTest(example):
                 self.run_example(example)
