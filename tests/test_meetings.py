@@ -5,12 +5,15 @@ import unittest
 
 from helpers import WRONG_NUMBERS, refusal
 from plain import BOOKS, Plain, drawn_machine, drawn_start
+from riding import SLEEPY, sleepy_machine
+from selfwritten.books import Book
 from selfwritten.happenings import start
 from selfwritten.machines import Machine
 from selfwritten.meetings import meeting, part_of
 from selfwritten.memory import write_by
 from selfwritten.ports import asked
 from selfwritten.runs import run, trail
+from selfwritten.saves import saved, world_of
 from selfwritten.worlds import with_cell
 from worldly import apart, machine_of, nop_book
 
@@ -67,6 +70,74 @@ class Meetings(unittest.TestCase):
             one = world.changed(**{name: (rows[0], rows[2])})
             self.assertIsNone(meeting(machine, one, world.changed(**{name: (rows[1], rows[2])}), 10))
             self.assertEqual(meeting(machine, one, world.changed(**{name: (rows[0], rows[2])}), 10), 0)
+
+    def test_what_was_shown_or_noted_ahead(self):
+        # One world has already what the run of the other one is still to show and to note.
+        rng = random.Random(17)
+        told = []
+        for _ in range(300):
+            machine = drawn_machine(rng, 4, book=BOOKS[4])
+            one = run(machine, drawn_start(rng, machine), rng.randrange(6))
+            last = run(machine, one, one.moment + rng.randrange(1, 20))
+            other = one.changed(shown=last.shown[:rng.randrange(len(last.shown) + 1)] if rng.random() < 0.5 else last.shown,
+                                noted=last.noted[:rng.randrange(len(last.noted) + 1)] if rng.random() < 0.5 else last.noted)
+            if len(other.shown) < len(one.shown) or len(other.noted) < len(one.noted):
+                continue
+            # Where it is to meet, it must not show and note the same once more.
+            for _ in range(rng.randrange(3)):
+                told_cells = [event[2] for event in machine.events if event[1] == "cell"]
+                other = with_cell(other, rng.choice(told_cells or list(range(16))), rng.randrange(16))
+            if rng.random() < 0.6 and one.left > 0:
+                other = with_own(other, 0, status="resting", lines=())
+            other, one = world_of(saved(other)), world_of(saved(one))
+            moment = rng.choice((0, 3, 10, 40))
+            found = meeting(machine, one, other, moment)
+            self.assertEqual(found, self.wanted(machine, one, other, moment))
+            self.assertEqual(meeting(machine, other, one, moment), found)
+            told.append((found, one.shown == other.shown and one.noted == other.noted))
+        self.assertIn((None, False), told)
+
+    def test_runs_that_show_what_the_other_one_has_already(self):
+        say = ("say", ("0001",), [("num", 5), ("out", 0, 0)])
+        book = Book(4, 1, [("nop", ("0000",), ()), say])
+        rng = random.Random(1017)
+        found = {}
+        for _ in range(300):
+            cells = [rng.randrange(2) for _ in range(16)]
+            moment = rng.randrange(1, 8)
+            # Events make the cells equal later on.
+            machine = Machine(book, events=[(moment, "cell", x, 0) for x in range(16)])
+            one = start(machine, cells, (0,))
+            blank = [0 if rng.random() < 0.8 else cell for cell in cells]
+            shown = [(at, 0, 5) for at in range(8) if cells[at] and not blank[at]]
+            if rng.random() < 0.3 and shown:
+                shown[rng.randrange(len(shown))] = (rng.randrange(9), 0, rng.randrange(4, 6))
+            other = world_of(saved(start(machine, blank, (0,)).changed(shown=tuple(shown))))
+            for moment in (0, moment - 1, moment, 20):
+                told = meeting(machine, one, other, moment)
+                self.assertEqual(told, self.wanted(machine, one, other, moment))
+                self.assertEqual(meeting(machine, other, one, moment), told)
+                found[told, bool(shown)] = found.get((told, bool(shown)), 0) + 1
+        self.assertGreaterEqual(len([told for told, ahead in found if ahead]), 6)
+
+    def test_entries_far_ahead(self):
+        machine = machine_of()
+        world = start(machine, (), (0,))
+        for shown in (((10 ** 9, 0, 3),), ((5, 0, 3), (10 ** 9, 0, 3))):
+            other = world_of(saved(world.changed(shown=shown)))
+            self.assertIsNone(meeting(machine, world, other, 2000))
+            self.assertIsNone(meeting(machine, other, world, 2000))
+            self.assertEqual(meeting(machine, other, other, 2000), 0)
+
+    def test_sleep(self):
+        machine = sleepy_machine()
+        world = start(machine, SLEEPY, (0, 0), vectors=(3, 3))
+        for x, wanted in ((9, 7), (10, None)):
+            self.assertEqual(meeting(machine, world, with_cell(world, x, 3), 100000), wanted)
+        one = run(machine, world, 15025)
+        self.assertEqual(meeting(machine, one, with_cell(one, 9, 3), 100000), 30033)
+        self.assertEqual(part_of(machine, one, 100000, 9), 30032)
+        self.assertIsNone(part_of(machine, one, 100000, 10))
 
     def test_refused(self):
         machine = machine_of(processors=2)
