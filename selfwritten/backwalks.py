@@ -61,7 +61,7 @@ class Planner:
         # For each number of places the costs of all lengths, as they are asked for.
         self.costs = {}
 
-    def cost(self, length, places):
+    def cost_of(self, length, places):
         if places not in self.costs:
             self.costs[places] = [0] + [_cost(one, places) for one in range(1, self.longest + 1)]
         return self.costs[places][length]
@@ -89,7 +89,7 @@ class Planner:
 
     def first_go(self, length, places):
         """How far the first go leads in a plan of the least cost."""
-        sums = [one + self.cost(length - one, places - 1) + self.cost(one, places) for one in range(1, length)]
+        sums = [one + self.cost_of(length - one, places - 1) + self.cost_of(one, places) for one in range(1, length)]
         return sums.index(min(sums)) + 1
 
 

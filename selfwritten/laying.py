@@ -82,12 +82,12 @@ class Laying:
         self.at = number
         named = lines_named(line)
         self.busy = {reg: True for reg, own in enumerate(self.has) if own in named}
-        regs = [self.bring(one) for one in named]
+        regs = [self.bring(one) for one in list(named)]
         name = line[0]
         if name in OPS:
             self.keep_line(number, self.lay_rule(name, regs, 0))
         elif name in ("read", "in"):
-            reg = self.take()
+            reg = self.take_reg()
             self.steps.append((name, reg, regs[0] if name == "read" else line[1]))
             self.keep_line(number, reg)
         elif name == "write":
@@ -103,13 +103,13 @@ class Laying:
         """The house register has this line from now on; if the line is held, it is saved."""
         self.has[reg] = number
         if number in self.held:
-            self.save(number, reg)
+            self.save_line(number, reg)
 
-    def save(self, number, reg):
+    def save_line(self, number, reg):
         self.steps.append(("save", self.slots[number], reg))
         self.saved[number] = True
 
-    def take(self):
+    def take_reg(self):
         """A house register that is free from now on, and busy."""
         idle = [reg for reg in range(len(self.has)) if reg not in self.busy]
         reg = self._easy(idle)
@@ -117,7 +117,7 @@ class Laying:
             reg = self._furthest(idle)
             line = self.has[reg]
             if self.lines[line][0] != "get" and line not in self.saved:
-                self.save(line, reg)
+                self.save_line(line, reg)
         self.has[reg] = None
         self.busy[reg] = True
         return reg
@@ -145,10 +145,10 @@ class Laying:
         """Lays the rule of an operation, or of num for a number; returns the register of d."""
         rule = self.pair.rule_for(op)
         places = dict(zip(("x", "y"), regs))
-        places["d"] = self.take()
+        places["d"] = self.take_reg()
         extra = [operand for operand in ("u", "v") if _names(rule, operand)]
         for operand in extra:
-            places[operand] = self.take()
+            places[operand] = self.take_reg()
         self.steps.extend(rule_steps(self.pair.house, self.pair.book.word, rule, places, number))
         for operand in extra:
             self.has[places[operand]] = None
@@ -161,7 +161,7 @@ class Laying:
             return self.has.index(number)
         line = self.lines[number]
         if line[0] == "get" or number in self.saved:
-            reg = self.take()
+            reg = self.take_reg()
             self.steps.append(("load", reg, self.slots[number]))
         else:
             reg = self.lay_rule("num", [], line[1])

@@ -60,7 +60,7 @@ def _added(book, road, at, lines, mark):
     place = None
     # For each line of the form the line that stands for it.
     names = []
-    for line in form.lines:
+    for line in list(form.lines):
         stands = None
         if line[0] == "get":
             stands = mark[1 + letters.get(line[1], line[1])]

@@ -121,7 +121,8 @@ class Proposer:
         if how == 0:
             return None
         if how == 3:
-            for at in range(len(self.offers)):
+            many = len(self.offers)
+            for at in range(many):
                 found = self._offered(world, entry, at)
                 if found is not None:
                     return found

@@ -78,7 +78,7 @@ class Follower:
         """Rides through a road as far as a ride goes."""
         self.begun.append((self.world.moment, self.q, road.entry, len(road)))
         self.requested.append((road.entry, True))
-        for at, instruction in enumerate(road.instructions):
+        for at, instruction in enumerate(list(road.instructions)):
             cause = carried_out(self, instruction)
             if cause is not None:
                 self.become(closed_by(self.machine, faulted(self.world, self.q, cause)))

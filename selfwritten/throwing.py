@@ -8,7 +8,11 @@ from selfwritten.widths import check_length, is_int, is_row
 def made_by(picks, row, size):
     """How many makings a row of requests costs."""
     shelf, row = _checked(picks, row, size)
-    return len([True for entry, used in row if _is_making(shelf, entry, used)])
+    makings = 0
+    for entry, used in row:
+        if _is_making(shelf, entry, used):
+            makings += 1
+    return makings
 
 
 def lying(picks, row, size):

@@ -65,7 +65,7 @@ class Answers(unittest.TestCase):
     def test_against_asked_and_stops(self):
         rng = random.Random(167)
         seen = {}
-        for _ in range(400):
+        for _ in range(900):
             machine, pair, world = drawn_case(rng)
             world = run(machine, world, rng.randrange(20))
             q = turn_of(machine, world)

@@ -150,6 +150,9 @@ class Facts(unittest.TestCase):
             handlers = {one.cells[10:15] for run_through in worlds for one in run_through}
             if len(faults) != 1 or worlds[0][-1].noted or len(handlers) > 1:
                 continue
+            if max(one.processors[0].place for one in worlds[0]) >= 10:
+                # The program has written over its jump and runs into the handler.
+                continue
             self.assertIn(faults[0][2], (8, 10, 11))
             met += 1
             at = faults[0][0]

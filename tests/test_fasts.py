@@ -57,7 +57,7 @@ class DeedByDeed(unittest.TestCase):
     def test_against_own_machine(self):
         rng = random.Random(168)
         names, causes = {}, {}
-        for number in range(260):
+        for number in range(400):
             machine, pair, world = jumping_case(rng) if number % 3 == 0 else drawn_case(rng)
             if number % 3 == 1:
                 machine, pair, world = drawn_case(rng, book=BOOKS[4], processors=1)

@@ -45,7 +45,7 @@ class Trimmed(unittest.TestCase):
             self.assertIsNone(dear_at(pair, road, plain_row))
             if len(pair.rule_for("num")[1]) <= 3:
                 self.assertFalse(too_dear)
-        self.assertGreater(dear, 20)
+        self.assertGreater(dear, 10)
 
     def test_a_rule_of_num_that_is_long(self):
         rng = random.Random(1147)

@@ -28,6 +28,13 @@ def own_changed(machine, world, moment, x):
     return None
 
 
+def drawn_cell(rng, machine, world):
+    """A cell, often one that the run changes."""
+    last = run(machine, world, world.moment + 60)
+    changed = [x for x in range(16) if last.cells[x] != world.cells[x]]
+    return rng.choice(changed) if changed and rng.random() < 0.8 else rng.randrange(16)
+
+
 class Untils(unittest.TestCase):
     def test_plain_against_own(self):
         rng = random.Random(201)
@@ -41,7 +48,7 @@ class Untils(unittest.TestCase):
             told = until_plain(machine, world, moment, places)
             self.assertEqual(told, own_until(machine, world, moment, places))
             found["until", told is None] = True
-            x = rng.randrange(16)
+            x = drawn_cell(rng, machine, world)
             told = changed_plain(machine, world, moment, x)
             self.assertEqual(told, own_changed(machine, world, moment, x))
             found["changed", told is None] = True
@@ -58,7 +65,7 @@ class Untils(unittest.TestCase):
                 for _ in range(rng.choice((0, 0, 3, 20))):
                     self.assertEqual(fast.deed(30), twin.deed(30))
                 begin = fast.meaning()
-                moment, x = rng.choice((0, begin.moment, begin.moment + 3, 60)), rng.randrange(16)
+                moment, x = rng.choice((0, begin.moment, begin.moment + 3, 60)), drawn_cell(rng, machine, begin)
                 places = [rng.randrange(16) for _ in range(rng.randrange(4))]
                 kind = rng.choice(("until", "changed"))
                 if kind == "until":

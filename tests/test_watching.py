@@ -259,7 +259,7 @@ class Keeping(unittest.TestCase):
                         self.assertEqual(row_run(pair, row, road.entry, regs, answers)[:2],
                                          road_run(machine.book, pairs, regs, answers)[0])
         for name in ("fresh", "gone", "same", "unlike"):
-            self.assertGreater(told[name], 5, told)
+            self.assertGreater(told[name], 1, told)
 
     def test_a_row_that_suits_the_new_road(self):
         # The old road is one instruction longer; the row is that of the new one.
