@@ -2,6 +2,7 @@
 
 from selfwritten.errors import BadPair
 from selfwritten.fasts import Fast
+from selfwritten.letting import least_slot_beyond
 from selfwritten.stores import check_picks, check_size
 from selfwritten.widths import check_int
 from selfwritten.worlds import check_world
@@ -18,15 +19,7 @@ def keeps_bounds(fast):
     begun = 0 if fast.riding() is None and fast.waiting is None else 1
     if fast.house_steps > pair.c * (fast.road_steps + begun) or fast.written > pair.d * fast.made:
         return False
-    return all([_has_room(pair, fast.store.row_at(entry)) for entry in fast.store.entries()])
-
-
-def _has_room(pair, row):
-    """Whether all slots of a row are below the bound."""
-    slots = [step[2] for step in row.steps if step[0] == "load"]
-    slots.extend([step[1] for step in row.steps if step[0] == "save"])
-    slots.extend([late[1] for late in row.late if late[0] == "slot"])
-    return all([slot < pair.r for slot in slots])
+    return all([least_slot_beyond(pair, fast.store.row_at(entry)) is None for entry in fast.store.entries()])
 
 
 def dearest(pair):

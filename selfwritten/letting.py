@@ -11,7 +11,7 @@ from selfwritten.templates import base
 def let_by(pair, road, row):
     """Raises unless the row is let by for the road."""
     _check_shape(pair, road, row)
-    slot = _least_slot(pair, row)
+    slot = least_slot_beyond(pair, row)
     if slot is not None:
         raise NoRoom(slot)
     dear = _first_dear(pair, road, row)
@@ -47,7 +47,7 @@ def _check_shape(pair, road, row):
         raise BadRow(len(row.steps) + len(row.late))
 
 
-def _least_slot(pair, row):
+def least_slot_beyond(pair, row):
     """The least slot that is beyond the pair's room, or None."""
     slots = [step[2] for step in row.steps if step[0] == "load"]
     slots.extend([step[1] for step in row.steps if step[0] == "save"])

@@ -70,7 +70,7 @@ class Follower:
             if road is None:
                 return None
             self._roads[entry] = road
-            for look in road.looks:
+            for look in list(road.looks):
                 self._looking.setdefault(look[:2], {})[entry] = True
         return self._roads[entry]
 

@@ -125,6 +125,30 @@ def jumping_case(rng):
     return machine, drawn_pair(rng, machine.book, longest=8), drawn_start(rng, machine)
 
 
+def drawn_text(rng, machine, image):
+    """The text of a world of the machine in which anything may stand that a text may write."""
+    size, moment = 2 ** machine.word, rng.choice((0, 3, 15, 16, 100))
+    turn = rng.randrange(len(machine.turns))
+    words = lambda many, most: "".join(f" {rng.randrange(most)}" for _ in range(many))
+    rows = [f"moment {moment}", "cells" + "".join(f" {word}" for word in image),
+            "rights" + "".join(f" {rng.choice((7, 7, 7, 5, 6, 3))}" for _ in range(8)),
+            f"turn {turn} {rng.randrange(1, machine.turns[turn][1] + 1)}", "typed" + words(rng.randrange(3), size)]
+    q = lambda: rng.randrange(machine.processors)
+    for _ in range(rng.choice((0, 0, 1, 2))):
+        rows.append(f"shown {max(0, moment + rng.choice((-1, 0, 1, 3, 20)))} {q()} {rng.randrange(size)}")
+    for _ in range(rng.choice((0, 0, 1))):
+        rows.append(f"noted {moment + rng.choice((0, 1, 5))} {q()} {rng.randrange(16)} {rng.randrange(size)}")
+    for number in range(machine.processors):
+        signals = sorted(rng.sample(range(1, 8), rng.choice((0, 0, 0, 1, 3))))
+        alarm = rng.choice(("none", "none", moment + rng.randrange(30), max(0, moment - 2)))
+        rows += [f"processor {number}", "place" + words(1, size), "regs" + words(machine.book.registers, size),
+                 "buffer" + words(2 * rng.randrange(machine.depth + 1), size), "lines" + "".join(f" {one}" for one in signals),
+                 f"alarm {alarm}", f"vector {rng.choice(('none', rng.randrange(size)))}", "mode" + words(1, 2), "back" + words(1, size),
+                 "cause" + words(1, 16), "kept" + words(1, size), "page" + words(1, 8),
+                 f"status {rng.choice(('on', 'on', 'on', 'resting', 'stopped', 'fallen'))}"]
+    return "".join(row + "\n" for row in rows)
+
+
 # Sleeps at place 0; a signal leads to place 3, which goes back behind the sleep, and so to place 0 again.
 SLEEPY = (1, 2, 0, 3)
 

@@ -4,14 +4,18 @@ import random
 import unittest
 
 from helpers import refusal
-from plain import BOOKS, drawn_machine, drawn_start, let_by_book
-from riding import drawn_case, drawn_pair, drawn_ways, worlds_of
+from plain import BOOKS, Plain, drawn_image, drawn_machine, drawn_start, let_by_book
+from riding import drawn_case, drawn_pair, drawn_text, drawn_ways, worlds_of
+from selfwritten.counting import done_counts, plain_counts
+from selfwritten.desks import Desk
 from selfwritten.fasts import Fast
 from selfwritten.happenings import start
-from selfwritten.machines import Machine
+from selfwritten.legs import legs_run
+from selfwritten.requests import requests
 from selfwritten.runs import run, trail
 from selfwritten.saves import saved, world_of
-from selfwritten.worlds import Processor, World
+from selfwritten.untils import until_plain
+from selfwritten.worlds import Processor, World, is_over, turn_of
 from worldly import drawn_world, machine_of
 
 HEAD = ["moment", "cells", "rights", "turn", "typed"]
@@ -283,6 +287,35 @@ class Cuts(unittest.TestCase):
                     self.assertEqual(again.run(40), wanted)
         self.assertGreater(riding, 100)
 
+    def test_worlds_in_which_anything_stands(self):
+        rng = random.Random(1182)
+        ended = 0
+        for _ in range(120):
+            machine = drawn_machine(rng, 4)
+            pair = drawn_pair(rng, machine.book, longest=8)
+            text = drawn_text(rng, machine, drawn_image(rng, machine))
+            world = world_of(text)
+            self.assertEqual(saved(world), text)
+            moment = world.moment + 40
+            fast = Fast(machine, pair, world, size=rng.randrange(1, 9), plan=[(rng.choice((1, 2)), rng.randrange(1, 9))])
+            if world.processors[turn_of(machine, world)].ended() and not is_over(world):
+                for call in (lambda: run(machine, world, moment), lambda: fast.run(moment), lambda: requests(machine, world, moment, 3),
+                             lambda: Desk(machine, world).stand_at(moment), lambda: until_plain(machine, world, moment, ()),
+                             lambda: plain_counts(machine, world, moment), lambda: legs_run(machine, world, [(moment, None)])):
+                    self.assertEqual(refusal(call), ("BadWorld", "world"))
+                self.assertEqual((run(machine, world, world.moment), fast.world), (world, world))
+                ended += 1
+                continue
+            plain = Plain(machine, world)
+            while plain.moment < moment and not plain.over():
+                plain.step()
+            self.assertEqual(run(machine, world, moment).facts(), plain.facts())
+            self.assertEqual(fast.run(moment).facts(), plain.facts())
+            self.assertEqual(done_counts(fast), plain_counts(machine, world, moment))
+            self.assertEqual(Desk(machine, world, every=3).stand_at(moment).facts(), plain.facts())
+            self.assertEqual(saved(world_of(saved(fast.world))), saved(fast.world))
+        self.assertGreater(ended, 5)
+
     def test_a_world_that_is_read_is_checked_where_it_is_used(self):
         world = world_of(small_text(1).replace("turn 0 1", "turn 5 900"))
         machine = machine_of(depth=2)
@@ -290,7 +323,6 @@ class Cuts(unittest.TestCase):
         world = world_of(small_text(1))
         self.assertEqual(refusal(run, machine_of(depth=1), world, 9), ("BadWorld", "world"))
         self.assertEqual(run(machine, world, 7), world)
-        self.assertIsInstance(Machine, object)
         self.assertEqual(start(machine, (), (0,)), world_of(saved(start(machine, (), (0,)))))
 
 
