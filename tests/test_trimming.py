@@ -9,15 +9,18 @@ from riding import drawn_pair, long_pair
 from rowing import drawn_road, first_unlike, or_too_many, reads_of, road_run, row_run
 from selfwritten.books import Book
 from selfwritten.houses import House
+from selfwritten.judging import judged
 from selfwritten.laying import laid
 from selfwritten.letting import dear_at, is_let_by_judge, let_by
 from selfwritten.middle import middle_of
 from selfwritten.pairs import Pair
 from selfwritten.passes import late_lines, plainly, tidy
+from selfwritten.pools import Pool
 from selfwritten.roads import road_of
 from selfwritten.rowruns import run_row
 from selfwritten.rows import LEAVES, handed_parts, price
-from selfwritten.templates import base
+from selfwritten.sketches import sketch_of_row
+from selfwritten.templates import base, template
 from selfwritten.trimming import trimmed
 
 # An operation that is known only once the row is tidy.
@@ -133,6 +136,35 @@ class Trimmed(unittest.TestCase):
                     reached = more
                 twice = [at for at in reached if middle.lines[at][0] in ("add", "sub") and pair.house.width > 4]
                 self.assertEqual(handed_parts(row, boundary), len(reached) + len(twice))
+
+    def test_behind_an_effect_only_a_tick_a_keep_or_an_end_leaves(self):
+        rng = random.Random(222)
+        met = {}
+        for _ in range(300):
+            pair, road = drawn_one(rng)
+            row = trimmed(pair, road)
+            for _ in range(8):
+                regs = tuple(rng.choice((0, 1, 15, rng.randrange(16))) for _ in range(pair.book.registers))
+                answers = [rng.choice((0, 1, rng.randrange(16))) for _ in range(rng.randrange(12))]
+                asks, (cause, _, _, _), _ = run_row(pair, row, road.entry, regs, answers)
+                names = [ask[0] for ask in asks]
+                yes = names[:len(answers)]
+                behind = yes[max([at for at, name in enumerate(yes) if name == "tick"], default=-1) + 1:]
+                if set(behind) & {"write", "in", "out"}:
+                    self.assertIsNone(cause)
+                    self.assertIn(names[len(answers):], ([], ["tick"]))
+                    met[tuple(names[len(answers):])] = True
+        self.assertEqual(len(met), 2)
+
+    def test_two_rows_that_are_let_by_are_the_same(self):
+        rng = random.Random(224)
+        told = {None: 0, "TooMany": 0}
+        for _ in range(150):
+            pair, road = drawn_one(rng)
+            pool = Pool(pair.house.width)
+            one, other = [sketch_of_row(pool, pair, row, road.entry) for row in (template(pair, road), trimmed(pair, road))]
+            told[or_too_many(judged, one, other)] += 1
+        self.assertGreater(told[None], 100)
 
     def test_a_row_without_lines_at_all(self):
         book = Book(4, 1, [("nop", ("0000",), ())])
