@@ -14,7 +14,7 @@ SLOTTED = ("num", "read", "in")
 def laid(pair, middle):
     """The house row of a middle row."""
     laying = Laying(pair, middle)
-    for number in now_lines(middle):
+    for number in list(now_lines(middle)):
         if middle.lines[number][0] not in ("get", "num"):
             laying.lay_line(number)
     late, places = _late_words(pair, middle, laying)

@@ -7,9 +7,11 @@ from selfwritten.widths import check_length, is_int, is_row
 
 def made_by(picks, row, size):
     """How many makings a row of requests costs."""
-    shelf, row = _checked(picks, row, size)
+    picks = check_picks(picks)
+    requested = check_requests(row)
+    shelf = Shelf(check_size(size), picks)
     makings = 0
-    for entry, used in row:
+    for entry, used in requested:
         if _is_making(shelf, entry, used):
             makings += 1
     return makings
@@ -17,9 +19,11 @@ def made_by(picks, row, size):
 
 def lying(picks, row, size):
     """For each pair the entries that lie there behind it."""
-    shelf, row = _checked(picks, row, size)
+    picks = check_picks(picks)
+    requested = check_requests(row)
+    shelf = Shelf(check_size(size), picks)
     found = []
-    for entry, used in row:
+    for entry, used in requested:
         _is_making(shelf, entry, used)
         found.append(tuple(sorted(shelf.by_put)))
     return tuple(found)
@@ -35,13 +39,6 @@ def furthest(row, size):
     """The entries picked, if the furthest one is picked each time."""
     _, picked = _by_furthest(check_requests(row), check_size(size))
     return tuple(picked)
-
-
-def _checked(picks, row, size):
-    """An empty shelf, and the row of requests."""
-    picks = check_picks(picks)
-    row = check_requests(row)
-    return Shelf(check_size(size), picks), row
 
 
 def check_requests(row):
